@@ -1,0 +1,185 @@
+"""Values that several tests share, and plain versions of the definitions to compare with."""
+
+from itertools import product
+
+# The example of the document.
+N = (10, 3, ((0, 1, 0, 99, 5), (1, 2, 0, 9, None), (2, 0, 0, 99, 2), (1, 0, 0, 99, 3)))
+# N with another meter: its groups have the sums 1 and 9.
+N_OFF = (10, 3, ((0, 1, 0, 99, 5), (1, 2, 0, 9, None), (2, 0, 0, 99, 2), (1, 0, 0, 99, 4)))
+# The example for excess.
+N_EXCESS = (10, 4, ((0, 1, 0, 99, 5), (1, 2, 0, 9, None), (2, 3, 8, 17, None), (3, 0, 0, 99, 5)))
+
+HUGE = 10 ** 1000 - 1
+
+
+def nested(depth, make):
+    """Returns the empty tuple, wrapped so many times."""
+    value = ()
+    for _ in range(depth):
+        value = make(value)
+    return value
+
+
+def crowded(width):
+    """Returns a value 90 levels deep with width ** 90 parts: nobody can visit them one by one."""
+    return nested(90, lambda value: (value,) * width)
+
+
+class Touchy:
+    """An object that fails when it is compared, measured, tested, hashed, iterated over or shown."""
+
+    def _fail(self, *others):
+        raise AssertionError("a value of another kind was used")
+
+    __eq__ = __ne__ = __lt__ = __le__ = __gt__ = __ge__ = _fail
+    __len__ = __bool__ = __hash__ = __iter__ = __getitem__ = __contains__ = _fail
+    __int__ = __index__ = __repr__ = __str__ = _fail
+
+
+def strange_values():
+    """Returns values of many kinds, new ones at every call. None of them is an integer or a tuple of integers."""
+    return [
+        "", "0", "1", "a" * 20000, b"", b"\x00", [], [0], [[0]], {}, {0: 1}, set(), {0, 1}, frozenset((0,)),
+        None, True, False, object(), Touchy(), int, len, lambda: 0, range(2), iter((0, 1)), 1j,
+        (None,), (True,), (False,), ("0",), ([0],), (Touchy(),), ((0,),), ((),),
+        nested(90, lambda value: (value,)), nested(90, lambda value: [value]), nested(90, lambda value: {0: value}),
+        crowded(2), crowded(3), crowded(5), [crowded(2)] * 3, {1: crowded(2)},
+    ]
+
+
+def draws(seed):
+    """Returns a function that draws an integer from low to high, the same ones in every run."""
+    state = [seed * 7919 + 1]
+
+    def draw(low, high):
+        state[0] = (state[0] * 6364136223846793005 + 1442695040888963407) & (2 ** 64 - 1)
+        return low + (state[0] >> 33) % (high - low + 1)
+
+    return draw
+
+
+def plainly_open(pipe):
+    return pipe[4] is None and pipe[2] < pipe[3]
+
+
+def closes_ring(places, pipes):
+    """Tells whether these open pipes contain a ring: every part of a ring has an end left that others lead to."""
+    left = list(pipes)
+    while True:
+        ends = [place for pipe in left for place in pipe[:2]]
+        kept = [pipe for pipe in left if ends.count(pipe[0]) > 1 and ends.count(pipe[1]) > 1]
+        if len(kept) == len(left):
+            return len(left) > 0
+        left = kept
+
+
+def drawn_network(seed):
+    """Returns a network with small numbers."""
+    draw = draws(seed)
+    modulus, places = draw(2, 5), draw(2, 5)
+    pipes = []
+    for _ in range(draw(0, 6)):
+        source = draw(0, places - 1)
+        target = (source + draw(1, places - 1)) % places
+        low = draw(0, 4)
+        high = low + draw(0, 5)
+        meter = draw(0, modulus - 1) if draw(0, 2) else None
+        pipe = (source, target, low, high, meter)
+        if closes_ring(places, [other for other in pipes + [pipe] if plainly_open(other)]):
+            pipe = (source, target, low, high, draw(0, modulus - 1))
+        pipes.append(pipe)
+    return (modulus, places, tuple(pipes))
+
+
+def flowing_network(seed):
+    """Returns a network with small numbers that has a flow: its meters and limits are taken from one."""
+    draw = draws(seed)
+    modulus, places = draw(2, 5), draw(2, 5)
+    ends, counts = [], []
+    for _ in range(draw(1, 2)):
+        # What goes round a closed walk enters and leaves every place of it.
+        start, step, worth = draw(0, places - 1), draw(1, places - 1), draw(0, 5)
+        walk = [(start + step * at) % places for at in range(draw(2, 3))]
+        walk = walk if walk[-1] != start else walk[:-1]
+        ends += zip(walk, walk[1:] + walk[:1])
+        counts += [worth] * len(walk)
+    pipes = []
+    for (source, target), count in zip(ends, counts):
+        low, high = max(0, count - draw(0, 7)), count + draw(0, 7)
+        pipe = (source, target, low, high, None)
+        if draw(0, 1) or closes_ring(places, [other for other in pipes + [pipe] if plainly_open(other)]):
+            pipe = (source, target, low, high, count % modulus)
+        pipes.append(pipe)
+    return (modulus, places, tuple(pipes))
+
+
+def all_flows(network):
+    """Returns all flows of a small network, by [15]."""
+    modulus, places, pipes = network
+    spans = [
+        [count for count in range(low, high + 1) if meter is None or count % modulus == meter]
+        for _, _, low, high, meter in pipes
+    ]
+    return [counts for counts in product(*spans) if all(
+        sum(count for count, pipe in zip(counts, pipes) if pipe[1] == place)
+        == sum(count for count, pipe in zip(counts, pipes) if pipe[0] == place)
+        for place in range(places)
+    )]
+
+
+def all_place_sets(places):
+    return [
+        tuple(place for place in range(places) if number >> place & 1)
+        for number in range(2 ** places)
+    ]
+
+
+def reach(pipes, start):
+    """Returns the places to which these pipes lead from the start, in any directions."""
+    found = {start}
+    while True:
+        more = found | {pipe[1] for pipe in pipes if pipe[0] in found} | {pipe[0] for pipe in pipes if pipe[1] in found}
+        if more == found:
+            return found
+        found = more
+
+
+def plain_groups(network):
+    """Returns the groups by [13]."""
+    links = [pipe for pipe in network[2] if plainly_open(pipe)]
+    return tuple(sorted({tuple(sorted(reach(links, place))) for place in range(network[1])}))
+
+
+def plain_sum(network, members, skipped=None):
+    """Returns, by [20] and [21], the residues of the pipes that enter the places minus those that leave them."""
+    modulus = network[0]
+    total = 0
+    for index, (source, target, low, _, meter) in enumerate(network[2]):
+        residue = low % modulus if meter is None else meter
+        if index != skipped and target in members and source not in members:
+            total += residue
+        if index != skipped and source in members and target not in members:
+            total -= residue
+    return total % modulus
+
+
+def plain_residues(network):
+    """Returns the residues by [20] and [21]. The sums of all groups are 0."""
+    modulus, _, pipes = network
+    found = []
+    for index, pipe in enumerate(pipes):
+        if plainly_open(pipe):
+            links = [other for at, other in enumerate(pipes) if plainly_open(other) and at != index]
+            found.append(plain_sum(network, reach(links, pipe[0]), index))
+        else:
+            found.append(pipe[2] % modulus if pipe[4] is None else pipe[4])
+    return tuple(found)
+
+
+def plain_bounds(network):
+    """Returns the bounds by [22], for small numbers."""
+    found = []
+    for pipe, residue in zip(network[2], plain_residues(network)):
+        fitting = [count for count in range(pipe[2], pipe[3] + 1) if count % network[0] == residue]
+        found.append((fitting[0], fitting[-1]) if fitting else None)
+    return tuple(found)

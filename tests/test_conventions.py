@@ -1,0 +1,252 @@
+"""Tests of the conventions, points 0 to 4, for all functions of the package that take a network."""
+
+import gc
+import inspect
+import sys
+import unittest
+import weakref
+from copy import deepcopy
+
+from tests.samples import HUGE, N, N_OFF, crowded, drawn_network, nested, strange_values
+from wrapcount import networks, residues
+from wrapcount.errors import GroupSum, InvalidNetwork, InvalidPipe, InvalidPlaces, NoCount, WrapcountError
+
+RING = (10, 2, ((0, 1, 0, 9, None), (1, 0, 0, 9, None)))
+# The module, the name, the parameters and valid arguments of every function.
+FUNCTIONS = [
+    (networks, "check_network", ["value"], (N,)),
+    (networks, "is_network", ["value"], (N,)),
+    (networks, "is_open", ["network", "pipe"], (N, 1)),
+    (networks, "open_pipes", ["network"], (N,)),
+    (networks, "groups", ["network"], (N,)),
+    (networks, "entering", ["network", "places"], (N, (1, 2))),
+    (networks, "leaving", ["network", "places"], (N, (1, 2))),
+    (residues, "group_sums", ["network"], (N,)),
+    (residues, "residues", ["network"], (N,)),
+    (residues, "bounds", ["network"], (N,)),
+    (residues, "excess", ["network", "places"], (N, (1, 2))),
+]
+# What is no network, and the class and the field of the error.
+WRONG_NETWORKS = [
+    (None, InvalidNetwork, "form"),
+    (list(N), InvalidNetwork, "form"),
+    (N + (0,), InvalidNetwork, "form"),
+    (crowded(2), InvalidNetwork, "form"),
+    (crowded(3), InvalidNetwork, "modulus"),
+    ((1, 0, []), InvalidNetwork, "modulus"),
+    ((True, 3, ()), InvalidNetwork, "modulus"),
+    ((10, crowded(5), crowded(5)), InvalidNetwork, "places"),
+    ((10, 0, []), InvalidNetwork, "places"),
+    ((10, True, ()), InvalidNetwork, "places"),
+    ((10, 3, [crowded(2)]), InvalidNetwork, "pipes"),
+    ((10, 3, list(N[2])), InvalidNetwork, "pipes"),
+    ((10, 3, (None,) * 61), InvalidNetwork, "pipes"),
+    ((10, 3, crowded(5)), InvalidPipe, 0),
+    ((10, 3, N[2] + (crowded(5), None)), InvalidPipe, 4),
+    ((10, 3, N[2] + (list(N[2][0]),)), InvalidPipe, 4),
+    ((10, 3, N[2] + ((False, 1, 0, 9, 5),)), InvalidPipe, 4),
+    ((10, 2, RING[2] + ((0, 1, 0, 9, 10),)), InvalidPipe, 2),
+    (RING, InvalidNetwork, "ring"),
+]
+NO_PLACES = [[], [0], (0, 0), (1, 0), (3,), (-1,), (True,), (HUGE,), None, 0, crowded(2), (crowded(3),)]
+
+
+def calls(function, parameters, arguments):
+    """Calls the function with the arguments by position and by name. Returns both results."""
+    return function(*arguments), function(**dict(zip(parameters, arguments)))
+
+
+class Held(list):
+    """A list that can be referred to weakly."""
+
+
+class Interface(unittest.TestCase):
+    def test_functions_are_defined_where_they_are_listed(self):
+        for module, name, parameters, _ in FUNCTIONS:
+            with self.subTest(name):
+                function = getattr(module, name)
+                self.assertTrue(inspect.isfunction(function))
+                self.assertEqual((function.__module__, function.__name__), (module.__name__, name))
+
+    def test_parameters(self):
+        for module, name, parameters, _ in FUNCTIONS:
+            with self.subTest(name):
+                found = inspect.signature(getattr(module, name)).parameters.values()
+                self.assertEqual([one.name for one in found], parameters)
+                self.assertEqual({one.kind for one in found}, {inspect.Parameter.POSITIONAL_OR_KEYWORD})
+                self.assertEqual({one.default for one in found}, {inspect.Parameter.empty})
+
+    def test_arguments_by_position_and_by_name(self):
+        for module, name, parameters, arguments in FUNCTIONS:
+            with self.subTest(name):
+                one, other = calls(getattr(module, name), parameters, arguments)
+                self.assertEqual(one, other)
+
+    def test_names_in_any_order(self):
+        self.assertIs(networks.is_open(pipe=1, network=N), True)
+        self.assertEqual(networks.entering(places=(1, 2), network=N), (0,))
+        self.assertEqual(residues.excess(places=(1, 2), network=N), -180)
+
+    def test_kinds_of_the_results(self):
+        def kinds(value):
+            return [kinds(item) for item in value] if type(value) is tuple else type(value)
+
+        self.assertIs(networks.check_network(N), None)
+        self.assertIs(networks.is_network(N), True)
+        self.assertIs(networks.is_open(N, 1), True)
+        self.assertEqual(kinds(networks.open_pipes(N)), [int])
+        self.assertEqual(kinds(networks.groups(N)), [[int], [int, int]])
+        self.assertEqual(kinds(networks.entering(N, (1, 2))), [int])
+        self.assertEqual(kinds(networks.leaving(N, (1, 2))), [int, int])
+        self.assertEqual(kinds(residues.group_sums(N)), [[[int], int], [[int, int], int]])
+        self.assertEqual(kinds(residues.residues(N)), [int] * 4)
+        self.assertEqual(kinds(residues.bounds(N)), [[int, int]] * 4)
+        self.assertEqual(kinds(residues.excess(N, (1, 2))), int)
+
+
+class WrongNetworks(unittest.TestCase):
+    def assertFails(self, call, kind, field):
+        with self.assertRaises(WrapcountError) as caught:
+            call()
+        self.assertIs(type(caught.exception), kind)
+        self.assertEqual(list(vars(caught.exception).values()), [field])
+
+    def test_every_function_checks_the_network_before_all_other_arguments(self):
+        for module, name, parameters, arguments in FUNCTIONS:
+            function = getattr(module, name)
+            for value, kind, field in WRONG_NETWORKS:
+                if name == "is_network":
+                    self.assertIs(function(value), False)
+                    continue
+                for others in (arguments[1:], (None,) * len(arguments[1:]), (crowded(2),) * len(arguments[1:])):
+                    with self.subTest(name, kind=kind.__name__, field=field):
+                        self.assertFails(lambda: function(value, *others), kind, field)
+                        by_name = dict(zip(parameters, (value,) + others))
+                        self.assertFails(lambda: function(**by_name), kind, field)
+
+    def test_every_value_of_every_kind_at_every_place_of_a_network(self):
+        # None of these values can stand where it is put, except None as a meter.
+        for value in strange_values():
+            wrong = [((value, 3, N[2]), "modulus"), ((10, value, N[2]), "places")]
+            wrong += [] if isinstance(value, tuple) else [((10, 3, value), "pipes")]
+            for network, part in wrong:
+                self.assertFails(lambda: networks.check_network(network), InvalidNetwork, part)
+                self.assertIs(networks.is_network(network), False)
+            pipes = [value] + [N[2][3][:at] + (value,) + N[2][3][at + 1:] for at in range(4)]
+            pipes += [] if value is None else [N[2][3][:4] + (value,)]
+            for pipe in pipes:
+                network = (10, 3, N[2][:3] + (pipe,))
+                self.assertFails(lambda: networks.check_network(network), InvalidPipe, 3)
+                self.assertIs(networks.is_network(network), False)
+
+    def test_values_nested_a_hundred_levels_deep(self):
+        for make in (lambda value: (value,), lambda value: [value], lambda value: (value,) * 3,
+                     lambda value: (10, 3, (value,)), lambda value: (0, 1, 0, 9, value), lambda value: {0: value}):
+            deep = nested(100, make)
+            self.assertIs(networks.is_network(deep), False)
+            self.assertIs(networks.is_network((10, 3, (deep,))), False)
+            self.assertIs(networks.is_network((10, 3, ((0, 1, 0, 9, deep),))), False)
+
+    def test_integers_of_a_thousand_digits(self):
+        for number in (HUGE, -HUGE):
+            for value in ((number, 3, ()), (10, number, ()), (10, 3, number)):
+                self.assertIs(networks.is_network(value), False)
+            for at in range(5):
+                pipe = N[2][0][:at] + (number,) + N[2][0][at + 1:]
+                self.assertFails(lambda: networks.check_network((10, 3, (pipe,))), InvalidPipe, 0)
+
+
+class OrderOfErrors(unittest.TestCase):
+    NO_COUNT = (10, 2, ((0, 1, 16, 18, 5), (1, 0, 0, 9, 5)))
+
+    def test_places_before_sums_before_bounds(self):
+        both = (10, 2, ((0, 1, 16, 18, 5),))
+        for network, places, kind in ((RING, [0], InvalidNetwork), (N_OFF, [0], InvalidPlaces),
+                                      (self.NO_COUNT, [0], InvalidPlaces), (both, [0], InvalidPlaces),
+                                      (both, (0,), GroupSum), (self.NO_COUNT, (0,), NoCount)):
+            with self.assertRaises(kind):
+                residues.excess(network, places)
+
+    def test_fields_are_the_very_objects(self):
+        for value in strange_values() + [HUGE, -HUGE, -1, 4, (1, 0)]:
+            with self.assertRaises(InvalidPipe) as caught:
+                networks.is_open(N, value)
+            self.assertIs(caught.exception.index, value)
+            for function in (networks.entering, networks.leaving, residues.excess):
+                with self.assertRaises(InvalidPlaces) as caught:
+                    function(N, value)
+                self.assertIs(caught.exception.value, value)
+
+    def test_errors_can_be_shown_whatever_was_passed(self):
+        for value in (crowded(2), crowded(5), nested(100, lambda value: [value])):
+            for function in (networks.is_open, networks.entering, networks.leaving, residues.excess):
+                with self.assertRaises(WrapcountError) as caught:
+                    function(N, value)
+                self.assertLess(len(str(caught.exception)), 200)
+                self.assertLess(len(repr(caught.exception)), 200)
+
+
+class Arguments(unittest.TestCase):
+    def test_arguments_are_not_modified(self):
+        for module, name, _, arguments in FUNCTIONS:
+            for wrong in ([10, 3, [[0, 1, 0, 9, 5]]], (10, 3, [[0, 1, 0, 9, 5]]), (10, 3, ([1, 0, 0, 9, 5],)),
+                          {"modulus": [10]}, [[2], [1]]):
+                before = deepcopy(wrong)
+                try:
+                    getattr(module, name)(wrong, *arguments[1:])
+                except WrapcountError:
+                    pass
+                self.assertEqual(wrong, before)
+                if len(arguments) == 2:
+                    self.assertRaises(WrapcountError, getattr(module, name), N, wrong)
+                    self.assertEqual(wrong, before)
+
+    def test_valid_arguments_are_not_kept(self):
+        for module, name, _, _ in FUNCTIONS:
+            # Made here, so that nothing else refers to them.
+            pipes = tuple([(0, 1, 0, 99, int("5")), (1, 0, 0, 99, None)])
+            network, places = tuple([10, 2, pipes]), tuple([int("1")])
+            arguments = [network, places] if name in ("entering", "leaving", "excess") else [network]
+            arguments = [network, 0] if name == "is_open" else arguments
+            held = (network, pipes, pipes[0], pipes[1], places)
+            before = [sys.getrefcount(value) for value in held]
+            getattr(module, name)(*arguments)
+            gc.collect()
+            self.assertEqual([sys.getrefcount(value) for value in held], before, name)
+
+    def test_wrong_arguments_are_not_kept(self):
+        for module, name, _, arguments in FUNCTIONS:
+            for at in range(len(arguments)):
+                wrong = Held()
+                gone = weakref.ref(wrong)
+                try:
+                    getattr(module, name)(*arguments[:at], (wrong,), *arguments[at + 1:])
+                except WrapcountError:
+                    pass
+                del wrong
+                gc.collect()
+                self.assertIsNone(gone(), name)
+
+    def test_results_do_not_depend_on_earlier_calls(self):
+        for seed in range(30):
+            network = drawn_network(seed)
+            first = networks.groups(network), residues.group_sums(network)
+            self.assertIs(networks.is_network((10, 3, (None,))), False)
+            self.assertRaises(InvalidPlaces, networks.entering, network, [0])
+            self.assertEqual((networks.groups(network), residues.group_sums(network)), first)
+
+
+class SetsOfPlaces(unittest.TestCase):
+    def test_every_function_checks_sets_of_places_in_the_same_way(self):
+        for value in NO_PLACES:
+            for function in (networks.entering, networks.leaving, residues.excess):
+                with self.assertRaises(InvalidPlaces) as caught:
+                    function(N, value)
+                self.assertIs(caught.exception.value, value)
+        for places in ((), (0,), (0, 1), (0, 2), (1, 2), (0, 1, 2)):
+            for function in (networks.entering, networks.leaving, residues.excess):
+                function(N, places)
+
+
+if __name__ == "__main__":
+    unittest.main()

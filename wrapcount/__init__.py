@@ -1,0 +1,1 @@
+"""Wrapcount: flows through pipes whose meters have wrapped around."""
