@@ -183,3 +183,87 @@ def plain_bounds(network):
         fitting = [count for count in range(pipe[2], pipe[3] + 1) if count % network[0] == residue]
         found.append((fitting[0], fitting[-1]) if fitting else None)
     return tuple(found)
+
+
+def plain_excess(network, limits, places):
+    """Returns the excess by [23], with these bounds."""
+    total = 0
+    for pipe, (least, most) in zip(network[2], limits):
+        total += least * (pipe[1] in places) * (pipe[0] not in places)
+        total -= most * (pipe[0] in places) * (pipe[1] not in places)
+    return total
+
+
+def plain_reasons(network):
+    """Returns all reasons of the first kind that applies, by [20] to [23], for a small network."""
+    wrong = [("sum", group) for group in plain_groups(network) if plain_sum(network, group)]
+    if wrong:
+        return wrong
+    limits = plain_bounds(network)
+    unbound = [("pipe", index) for index, pair in enumerate(limits) if pair is None]
+    if unbound:
+        return unbound
+    return [("places", places) for places in all_place_sets(network[1]) if plain_excess(network, limits, places) > 0]
+
+
+def is_plain_flow(network, counts):
+    """Tells whether integers are a flow, by [15]."""
+    modulus, places, pipes = network
+    for count, (_, _, low, high, meter) in zip(counts, pipes):
+        if not low <= count <= high or (meter is not None and count % modulus != meter):
+            return False
+    brought = [sum(count for count, pipe in zip(counts, pipes) if pipe[1] == place) for place in range(places)]
+    taken = [sum(count for count, pipe in zip(counts, pipes) if pipe[0] == place) for place in range(places)]
+    return len(counts) == len(pipes) and brought == taken
+
+
+def shuffled(items, draw):
+    left = list(items)
+    return [left.pop(draw(0, len(left) - 1)) for _ in items]
+
+
+def large_network(seed):
+    """Returns a network of 24 places and 60 pipes, and a flow of it."""
+    draw = draws(seed)
+    modulus = (2, 3, 10, 97, 10 ** 6)[draw(0, 4)]
+    spread = (0, 3 * modulus, 10 ** 9, 10 ** 12)[draw(0, 3)]
+    ends, counts = [], []
+    while len(ends) < 60:
+        # What goes round a closed walk enters and leaves every place of it.
+        walk = shuffled(range(24), draw)[:5]
+        worth = draw(0, (5, 10 ** 6, 10 ** 12)[draw(0, 2)])
+        ends += zip(walk, walk[1:] + walk[:1])
+        counts += [worth] * 5
+    pipes = []
+    for (source, target), count in zip(ends, counts):
+        low, high = max(0, count - draw(0, spread)), min(10 ** 12, count + draw(0, spread))
+        pipe = (source, target, low, high, None)
+        if draw(0, 2) or closes_ring(24, [other for other in pipes + [pipe] if plainly_open(other)]):
+            pipe = (source, target, low, high, count % modulus)
+        pipes.append(pipe)
+    return (modulus, 24, tuple(pipes)), tuple(counts)
+
+
+def overfull_network(seed):
+    """Returns a network of 24 places and 60 pipes, and a set of places with an excess of the modulus.
+
+    The set can let out just what a flow of another network brings, and one pipe has to bring more.
+    """
+    network, counts = large_network(seed)
+    draw = draws(seed + 1000)
+    modulus, _, pipes = network
+    while True:
+        places = tuple(sorted(shuffled(range(24), draw)[:draw(1, 23)]))
+        spare = [index for index, pipe in enumerate(pipes) if pipe[1] in places and pipe[0] not in places
+                 and counts[index] + modulus <= 10 ** 12]
+        if spare:
+            break
+    more = spare[draw(0, len(spare) - 1)]
+    changed = []
+    for index, (source, target, low, high, meter) in enumerate(pipes):
+        count = counts[index] + (modulus if index == more else 0)
+        low = count if target in places and source not in places else low
+        high = count if source in places and target not in places else max(high, low)
+        # An open pipe that becomes closed keeps its count, and so its residue.
+        changed.append((source, target, low, high, meter))
+    return (modulus, 24, tuple(changed)), places

@@ -7,10 +7,12 @@ import unittest
 import weakref
 from copy import deepcopy
 
-from tests.samples import HUGE, N, N_OFF, crowded, drawn_network, nested, strange_values
-from wrapcount import networks, residues
-from wrapcount.errors import GroupSum, InvalidNetwork, InvalidPipe, InvalidPlaces, NoCount, WrapcountError
+from tests.samples import HUGE, N, N_EXCESS, N_OFF, crowded, drawn_network, nested, strange_values
+from wrapcount import decisions, flows, networks, ranges, residues, variants
+from wrapcount.errors import GroupSum, InvalidAnswer, InvalidFlow, InvalidNetwork, InvalidOrder, InvalidPipe
+from wrapcount.errors import InvalidPlaces, NetworkMismatch, NoCount, NoFlow, WrapcountError
 
+FLOW = (5, 2, 2, 3)
 RING = (10, 2, ((0, 1, 0, 9, None), (1, 0, 0, 9, None)))
 # The module, the name, the parameters and valid arguments of every function.
 FUNCTIONS = [
@@ -25,7 +27,21 @@ FUNCTIONS = [
     (residues, "residues", ["network"], (N,)),
     (residues, "bounds", ["network"], (N,)),
     (residues, "excess", ["network", "places"], (N, (1, 2))),
+    (flows, "check_flow", ["network", "value"], (N, FLOW)),
+    (flows, "is_flow", ["network", "value"], (N, FLOW)),
+    (decisions, "decide", ["network"], (N,)),
+    (decisions, "check_decision", ["network", "answer"], (N, ("flow", FLOW))),
+    (ranges, "greatest_count", ["network", "pipe"], (N, 0)),
+    (ranges, "least_count", ["network", "pipe"], (N, 0)),
+    (ranges, "ranges", ["network"], (N,)),
+    (ranges, "check_greatest", ["network", "pipe", "answer"], (N, 0, (95, (95, 2, 2, 93), None))),
+    (ranges, "check_least", ["network", "pipe", "answer"], (N, 0, (5, FLOW, None))),
+    (variants, "reverse_pipes", ["network"], (N,)),
+    (variants, "renumber_places", ["network", "order"], (N, (2, 0, 1))),
+    (variants, "add_networks", ["one", "other"], (N, N)),
 ]
+# These return False instead of raising an error, for the arguments that they are asked about.
+TELLING = ("is_network", "is_flow")
 # What is no network, and the class and the field of the error.
 WRONG_NETWORKS = [
     (None, InvalidNetwork, "form"),
@@ -86,6 +102,15 @@ class Interface(unittest.TestCase):
         self.assertIs(networks.is_open(pipe=1, network=N), True)
         self.assertEqual(networks.entering(places=(1, 2), network=N), (0,))
         self.assertEqual(residues.excess(places=(1, 2), network=N), -180)
+        self.assertIs(flows.check_flow(value=FLOW, network=N), None)
+        self.assertIs(flows.is_flow(value=FLOW, network=N), True)
+        self.assertEqual(decisions.check_decision(answer=("flow", FLOW), network=N), "flow")
+        self.assertEqual(ranges.greatest_count(pipe=0, network=N)[0], 95)
+        self.assertEqual(ranges.least_count(pipe=0, network=N)[0], 5)
+        self.assertEqual(ranges.check_least(answer=(5, FLOW, None), pipe=0, network=N), 5)
+        self.assertEqual(ranges.check_greatest(pipe=1, answer=(2, FLOW, None), network=N), 2)
+        self.assertEqual(variants.renumber_places(order=(0, 1, 2), network=N), N)
+        self.assertEqual(variants.add_networks(other=(10, 3, ()), one=(10, 3, ())), (10, 3, ()))
 
     def test_kinds_of_the_results(self):
         def kinds(value):
@@ -102,6 +127,25 @@ class Interface(unittest.TestCase):
         self.assertEqual(kinds(residues.residues(N)), [int] * 4)
         self.assertEqual(kinds(residues.bounds(N)), [[int, int]] * 4)
         self.assertEqual(kinds(residues.excess(N, (1, 2))), int)
+        network = [int, int, [[int] * 5, [int] * 4 + [type(None)], [int] * 5, [int] * 5]]
+        self.assertIs(flows.check_flow(N, FLOW), None)
+        self.assertIs(flows.is_flow(N, FLOW), True)
+        self.assertIs(flows.is_flow(N, None), False)
+        self.assertEqual(kinds(decisions.decide(N)), [str, [int] * 4])
+        self.assertEqual(kinds(decisions.decide(N_OFF)), [str, [int]])
+        self.assertEqual(kinds(decisions.decide((10, 2, ((0, 1, 16, 18, 5), (1, 0, 0, 9, 5))))), [str, int])
+        self.assertEqual(kinds(decisions.decide(N_EXCESS)), [str, [int] * 3])
+        self.assertEqual(kinds(decisions.check_decision(N, ("flow", FLOW))), str)
+        self.assertEqual(kinds(ranges.greatest_count(N, 0)), [int, [int] * 4, type(None)])
+        self.assertEqual(kinds(ranges.least_count(N, 0)), [int, [int] * 4, type(None)])
+        self.assertEqual(kinds(ranges.greatest_count((10, 2, ((0, 1, 0, 10, 0),)), 0)), [int, [int], [int]])
+        self.assertEqual(kinds(ranges.least_count((10, 2, ((0, 1, 0, 9, None),)), 0)), [int, [int], type(None)])
+        self.assertEqual(kinds(ranges.ranges(N)), [[int, int]] * 4)
+        self.assertEqual(kinds(ranges.check_greatest(N, 0, (95, (95, 2, 2, 93), None))), int)
+        self.assertEqual(kinds(ranges.check_least(N, 0, (5, FLOW, None))), int)
+        self.assertEqual(kinds(variants.reverse_pipes(N)), network)
+        self.assertEqual(kinds(variants.renumber_places(N, (2, 0, 1))), network)
+        self.assertEqual(kinds(variants.add_networks(N, N)), network)
 
 
 class WrongNetworks(unittest.TestCase):
@@ -123,6 +167,15 @@ class WrongNetworks(unittest.TestCase):
                         self.assertFails(lambda: function(value, *others), kind, field)
                         by_name = dict(zip(parameters, (value,) + others))
                         self.assertFails(lambda: function(**by_name), kind, field)
+
+    def test_add_networks_checks_both_networks_before_it_compares_them(self):
+        for value, kind, field in WRONG_NETWORKS:
+            self.assertFails(lambda: variants.add_networks(N, value), kind, field)
+            self.assertFails(lambda: variants.add_networks((11, 2, ()), value), kind, field)
+            self.assertFails(lambda: variants.add_networks(value, (11, 2, ())), kind, field)
+        for value, kind, field in WRONG_NETWORKS:
+            for other, _, _ in WRONG_NETWORKS:
+                self.assertFails(lambda: variants.add_networks(value, other), kind, field)
 
     def test_every_value_of_every_kind_at_every_place_of_a_network(self):
         # None of these values can stand where it is put, except None as a meter.
@@ -167,11 +220,27 @@ class OrderOfErrors(unittest.TestCase):
             with self.assertRaises(kind):
                 residues.excess(network, places)
 
+    def test_pipes_before_answers_before_reasons(self):
+        for network in (N_OFF, self.NO_COUNT, N_EXCESS):
+            for function in (ranges.greatest_count, ranges.least_count):
+                self.assertRaises(InvalidPipe, function, network, None)
+                self.assertRaises(NoFlow, function, network, 0)
+            for function in (ranges.check_greatest, ranges.check_least):
+                self.assertRaises(InvalidPipe, function, network, None, None)
+                self.assertRaises(InvalidAnswer, function, network, 0, None)
+            self.assertRaises(NoFlow, ranges.ranges, network)
+            self.assertRaises(InvalidAnswer, decisions.check_decision, network, None)
+
     def test_fields_are_the_very_objects(self):
         for value in strange_values() + [HUGE, -HUGE, -1, 4, (1, 0)]:
-            with self.assertRaises(InvalidPipe) as caught:
-                networks.is_open(N, value)
-            self.assertIs(caught.exception.index, value)
+            for function, others in ((networks.is_open, ()), (ranges.greatest_count, ()), (ranges.least_count, ()),
+                                     (ranges.check_greatest, (None,)), (ranges.check_least, (None,))):
+                with self.assertRaises(InvalidPipe) as caught:
+                    function(N, value, *others)
+                self.assertIs(caught.exception.index, value)
+            with self.assertRaises(InvalidOrder) as caught:
+                variants.renumber_places(N, value)
+            self.assertIs(caught.exception.value, value)
             for function in (networks.entering, networks.leaving, residues.excess):
                 with self.assertRaises(InvalidPlaces) as caught:
                     function(N, value)
@@ -179,7 +248,14 @@ class OrderOfErrors(unittest.TestCase):
 
     def test_errors_can_be_shown_whatever_was_passed(self):
         for value in (crowded(2), crowded(5), nested(100, lambda value: [value])):
-            for function in (networks.is_open, networks.entering, networks.leaving, residues.excess):
+            calls = [networks.is_open, networks.entering, networks.leaving, residues.excess, flows.check_flow]
+            calls += [decisions.check_decision, ranges.greatest_count, ranges.least_count]
+            calls += [variants.renumber_places, variants.add_networks]
+            calls += [lambda network, value: ranges.check_greatest(network, 0, value)]
+            calls += [lambda network, value: ranges.check_least(network, 0, value)]
+            calls += [lambda network, value: decisions.check_decision(network, (value, value))]
+            calls += [lambda network, value: flows.check_flow(network, (value,) * 4)]
+            for function in calls:
                 with self.assertRaises(WrapcountError) as caught:
                     function(N, value)
                 self.assertLess(len(str(caught.exception)), 200)
@@ -197,22 +273,31 @@ class Arguments(unittest.TestCase):
                 except WrapcountError:
                     pass
                 self.assertEqual(wrong, before)
-                if len(arguments) == 2:
-                    self.assertRaises(WrapcountError, getattr(module, name), N, wrong)
+                for at in range(1, len(arguments)):
+                    passed = arguments[:at] + (wrong,) + arguments[at + 1:]
+                    if name in TELLING:
+                        self.assertIs(getattr(module, name)(*passed), False)
+                    else:
+                        self.assertRaises(WrapcountError, getattr(module, name), *passed)
                     self.assertEqual(wrong, before)
 
     def test_valid_arguments_are_not_kept(self):
-        for module, name, _, _ in FUNCTIONS:
+        for module, name, parameters, _ in FUNCTIONS:
             # Made here, so that nothing else refers to them.
             pipes = tuple([(0, 1, 0, 99, int("5")), (1, 0, 0, 99, None)])
-            network, places = tuple([10, 2, pipes]), tuple([int("1")])
-            arguments = [network, places] if name in ("entering", "leaving", "excess") else [network]
-            arguments = [network, 0] if name == "is_open" else arguments
-            held = (network, pipes, pipes[0], pipes[1], places)
-            before = [sys.getrefcount(value) for value in held]
-            getattr(module, name)(*arguments)
+            network, places, flow = tuple([10, 2, pipes]), tuple([int("1")]), tuple([95, int("95")])
+            low = tuple([5, int("5")])
+            answers = {"check_decision": tuple(["flow", flow]), "check_greatest": tuple([95, flow, None]),
+                       "check_least": tuple([5, low, None])}
+            made = {"places": places, "pipe": 0, "order": tuple([1, int("0")]), "other": network, "network": network,
+                    "one": network, "value": network if name in ("check_network", "is_network") else flow,
+                    "answer": answers.get(name)}
+            held = (network, pipes, pipes[0], pipes[1], places, flow, low, made["order"], made["answer"])
+            before = [sys.getrefcount(value) for value in held[:8]] + [sys.getrefcount(held[8]) * (held[8] is not None)]
+            getattr(module, name)(*[made[parameter] for parameter in parameters])
             gc.collect()
-            self.assertEqual([sys.getrefcount(value) for value in held], before, name)
+            after = [sys.getrefcount(value) for value in held[:8]] + [sys.getrefcount(held[8]) * (held[8] is not None)]
+            self.assertEqual(after, before, name)
 
     def test_wrong_arguments_are_not_kept(self):
         for module, name, _, arguments in FUNCTIONS:
@@ -234,6 +319,30 @@ class Arguments(unittest.TestCase):
             self.assertIs(networks.is_network((10, 3, (None,))), False)
             self.assertRaises(InvalidPlaces, networks.entering, network, [0])
             self.assertEqual((networks.groups(network), residues.group_sums(network)), first)
+
+    def test_flows_and_reasons_do_not_depend_on_earlier_calls(self):
+        seen = [self.outcomes(drawn_network(seed)) for seed in range(60)]
+        self.assertEqual([self.outcomes(drawn_network(seed)) for seed in reversed(range(60))], seen[::-1])
+
+    def outcomes(self, network):
+        calls = [lambda: decisions.decide(network), lambda: ranges.ranges(network)]
+        calls += [lambda pipe=pipe: ranges.greatest_count(network, pipe) for pipe in range(len(network[2]))]
+        found = []
+        for call in calls:
+            try:
+                found.append(call())
+            except NoFlow as error:
+                found.append(error.reason)
+        return found
+
+    def test_a_call_that_raises_has_no_other_effect(self):
+        for wrong in ([5, 2, 2, 3], (5, 2, 2, 13), None):
+            self.assertRaises(InvalidFlow, flows.check_flow, N, wrong)
+            self.assertRaises(InvalidAnswer, decisions.check_decision, N, ("flow", wrong))
+            self.assertRaises(InvalidAnswer, ranges.check_greatest, N, 0, (5, wrong, None))
+            self.assertRaises(NetworkMismatch, variants.add_networks, N, (10, 3, ()))
+            self.assertEqual(decisions.decide(N)[0], "flow")
+            self.assertEqual(ranges.ranges(N), ((5, 95), (2, 2), (2, 2), (3, 93)))
 
 
 class SetsOfPlaces(unittest.TestCase):

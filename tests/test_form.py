@@ -104,6 +104,16 @@ class Rules(unittest.TestCase):
                 self.assertNotIn(name, builtin, path)
                 self.assertTrue(name in DOUBLE + ["_"] or not name.startswith("_"), (path, name))
 
+    def test_no_method_or_attribute_has_the_name_of_one_of_a_builtin_value(self):
+        taken = {name for kind in (str, bytes, int, list, tuple, dict, set) for name in dir(kind)} - {"add", "copy"}
+        for path, tree in trees():
+            for node in nodes(tree, ast.ClassDef):
+                names = [one.name for one in node.body if isinstance(one, ast.FunctionDef)]
+                names += [one.attr for one in nodes(node, ast.Attribute) if isinstance(one.ctx, ast.Store)]
+                for name in names:
+                    self.assertTrue(name in DOUBLE or name in ("count", "index", "clear") or name not in taken,
+                                    (path, node.name, name))
+
     def test_only_listed_builtins_are_used(self):
         builtin = dir(__import__("builtins"))
         for path, tree in trees():

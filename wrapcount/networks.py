@@ -157,6 +157,15 @@ def leaves(pipe, places):
     return pipe[0] in places and pipe[1] not in places
 
 
+def place_balances(network, counts):
+    """Returns for each place what its pipes bring with these counts minus what they take."""
+    balances = [0] * network[1]
+    for pipe, count in zip(network[2], counts):
+        balances[pipe[1]] += count
+        balances[pipe[0]] -= count
+    return balances
+
+
 def entering(network, places):
     """Returns the ascending tuple of the indexes of the pipes that enter the set of places."""
     check_network(network)

@@ -1,8 +1,8 @@
 """Residues: what the meters tell of all counts, and the bounds that follow."""
 
 from wrapcount.errors import GroupSum, NoCount
-from wrapcount.networks import check_network, check_places, enters, find_groups
-from wrapcount.networks import is_open_pipe, joined_places, leaves, open_neighbours
+from wrapcount.networks import check_network, check_places, enters, find_groups, is_open_pipe
+from wrapcount.networks import joined_places, leaves, open_neighbours, place_balances
 
 
 def closed_residue(pipe, modulus):
@@ -12,16 +12,11 @@ def closed_residue(pipe, modulus):
     return pipe[4]
 
 
-def place_balances(network):
+def closed_balances(network):
     """Returns for each place what closed pipes bring minus what they take, by their residues."""
-    modulus, places, pipes = network
-    balances = [0] * places
-    for pipe in pipes:
-        if not is_open_pipe(pipe):
-            residue = closed_residue(pipe, modulus)
-            balances[pipe[1]] += residue
-            balances[pipe[0]] -= residue
-    return balances
+    modulus, _, pipes = network
+    known = [0 if is_open_pipe(pipe) else closed_residue(pipe, modulus) for pipe in pipes]
+    return place_balances(network, known)
 
 
 def balance_of(balances, members, modulus):
@@ -33,15 +28,20 @@ def balance_of(balances, members, modulus):
 def find_sums(network):
     """Returns the tuple of the pairs (group, sum) for all groups."""
     modulus, places, pipes = network
-    balances = place_balances(network)
+    balances = closed_balances(network)
     return tuple([(group, balance_of(balances, group, modulus)) for group in find_groups(places, pipes)])
+
+
+def wrong_groups(network):
+    """Returns the ascending tuple of the groups whose sums are not 0."""
+    return tuple([group for group, total in find_sums(network) if total != 0])
 
 
 def check_sums(network):
     """Raises GroupSum for the first group whose sum is not 0."""
-    for group, total in find_sums(network):
-        if total != 0:
-            raise GroupSum(group)
+    wrong = wrong_groups(network)
+    if wrong:
+        raise GroupSum(wrong[0])
 
 
 def group_sums(network):
@@ -50,12 +50,10 @@ def group_sums(network):
     return find_sums(network)
 
 
-def residues(network):
-    """Returns the tuple of the residues of all pipes."""
-    check_network(network)
-    check_sums(network)
+def find_residues(network):
+    """Returns the tuple of the residues of all pipes. The sums of all groups are 0."""
     modulus, places, pipes = network
-    balances = place_balances(network)
+    balances = closed_balances(network)
     near = open_neighbours(places, pipes)
     found = []
     for index, pipe in enumerate(pipes):
@@ -68,6 +66,13 @@ def residues(network):
     return tuple(found)
 
 
+def residues(network):
+    """Returns the tuple of the residues of all pipes."""
+    check_network(network)
+    check_sums(network)
+    return find_residues(network)
+
+
 def pipe_bounds(pipe, residue, modulus):
     """Returns the bounds of a pipe with this residue, or None if there are none."""
     low, high = pipe[2], pipe[3]
@@ -78,26 +83,33 @@ def pipe_bounds(pipe, residue, modulus):
     return (least, greatest)
 
 
+def find_bounds(network):
+    """Returns the tuple of the bounds of all pipes, None without bounds. The sums of all groups are 0."""
+    modulus, _, pipes = network
+    return tuple([pipe_bounds(pipe, residue, modulus) for pipe, residue in zip(pipes, find_residues(network))])
+
+
 def bounds(network):
     """Returns the tuple of the bounds of all pipes, with None for a pipe without bounds."""
-    known = residues(network)
-    modulus, _, pipes = network
-    return tuple([pipe_bounds(pipe, residue, modulus) for pipe, residue in zip(pipes, known)])
+    check_network(network)
+    check_sums(network)
+    return find_bounds(network)
+
+
+def unbound_pipes(limits):
+    """Returns the ascending tuple of the indexes of the pipes without bounds."""
+    return tuple([index for index, pair in enumerate(limits) if pair is None])
 
 
 def check_counts(limits):
     """Raises NoCount for the first pipe without bounds."""
-    for index, pair in enumerate(limits):
-        if pair is None:
-            raise NoCount(index)
+    wrong = unbound_pipes(limits)
+    if wrong:
+        raise NoCount(wrong[0])
 
 
-def excess(network, places):
-    """Returns the excess of the set of places."""
-    check_network(network)
-    check_places(network, places)
-    limits = bounds(network)
-    check_counts(limits)
+def find_excess(network, limits, places):
+    """Returns the excess of the set of places. All pipes have bounds, the limits."""
     total = 0
     for pipe, (least, greatest) in zip(network[2], limits):
         if enters(pipe, places):
@@ -105,3 +117,13 @@ def excess(network, places):
         if leaves(pipe, places):
             total -= greatest
     return total
+
+
+def excess(network, places):
+    """Returns the excess of the set of places."""
+    check_network(network)
+    check_places(network, places)
+    check_sums(network)
+    limits = find_bounds(network)
+    check_counts(limits)
+    return find_excess(network, limits, places)

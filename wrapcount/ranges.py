@@ -1,0 +1,115 @@
+"""Ranges: the least and the greatest possible counts, with what enforces them."""
+
+from wrapcount.decisions import find_decision
+from wrapcount.errors import InvalidAnswer, NoFlow
+from wrapcount.flows import find_fault
+from wrapcount.networks import check_index, check_network, enters, is_between, is_place_set, leaves
+from wrapcount.residues import find_bounds, find_excess
+from wrapcount.trials import Trial
+
+
+def flowing_trial(network):
+    """Returns a trial whose counts are a flow, or raises NoFlow with the reason why there is none."""
+    answer = find_decision(network)
+    if answer[0] != "flow":
+        raise NoFlow(answer)
+    return Trial(network, find_bounds(network), answer[1])
+
+
+def raise_count(trial, network, pipe):
+    """Raises the count of a pipe as far as possible. Returns None, or the places that set the end to it."""
+    source, target = network[2][pipe][:2]
+    return trial.exhaust(2 * pipe, target, source)
+
+
+def lower_count(trial, network, pipe):
+    """Lowers the count of a pipe as far as possible. Returns None, or the places that set the end to it."""
+    source, target = network[2][pipe][:2]
+    return trial.exhaust(2 * pipe + 1, source, target)
+
+
+def greatest_count(network, pipe):
+    """Returns the triple of the greatest possible count of the pipe, a flow with it, and what enforces it."""
+    check_network(network)
+    check_index(network, pipe)
+    trial = flowing_trial(network)
+    places = raise_count(trial, network, pipe)
+    return (trial.count_of(pipe), trial.counts(), places)
+
+
+def least_count(network, pipe):
+    """Returns the triple of the least possible count of the pipe, a flow with it, and what enforces it."""
+    check_network(network)
+    check_index(network, pipe)
+    trial = flowing_trial(network)
+    places = lower_count(trial, network, pipe)
+    return (trial.count_of(pipe), trial.counts(), places)
+
+
+def find_ranges(network):
+    """Returns the pairs (least possible count, greatest possible count) of all pipes. The network is valid."""
+    trial = flowing_trial(network)
+    found = []
+    for pipe in range(len(network[2])):
+        lower_count(trial, network, pipe)
+        least = trial.count_of(pipe)
+        raise_count(trial, network, pipe)
+        found.append((least, trial.count_of(pipe)))
+    return tuple(found)
+
+
+def ranges(network):
+    """Returns the tuple of the pairs (least possible count, greatest possible count) of all pipes."""
+    check_network(network)
+    return find_ranges(network)
+
+
+def check_flow_of(network, pipe, answer):
+    """Raises InvalidAnswer if the value is not a triple of a count, a flow with it, and an item of any kind."""
+    if not isinstance(answer, tuple) or len(answer) != 3:
+        raise InvalidAnswer("form")
+    if find_fault(network, answer[1]) is not None:
+        raise InvalidAnswer("flow")
+    if not is_between(answer[0], answer[1][pipe], answer[1][pipe]):
+        raise InvalidAnswer("count")
+
+
+def holds_down(network, limits, pipe, places):
+    """Returns the count above which the pipe cannot come by [26], or None if the value is no such set."""
+    if not is_place_set(places, network[1]) or not enters(network[2][pipe], places):
+        return None
+    return limits[pipe][0] - find_excess(network, limits, places)
+
+
+def holds_up(network, limits, pipe, places):
+    """Returns the count below which the pipe cannot come by [27], or None if the value is no such set."""
+    if not is_place_set(places, network[1]) or not leaves(network[2][pipe], places):
+        return None
+    return limits[pipe][1] + find_excess(network, limits, places)
+
+
+def check_greatest(network, pipe, answer):
+    """Returns the count of the answer if it is a result that greatest_count may return."""
+    check_network(network)
+    check_index(network, pipe)
+    check_flow_of(network, pipe, answer)
+    count, _, places = answer
+    # There is a flow, so all pipes have bounds.
+    limits = find_bounds(network)
+    enforced = limits[pipe][1] if places is None else holds_down(network, limits, pipe, places)
+    if count != enforced:
+        raise InvalidAnswer("places")
+    return count
+
+
+def check_least(network, pipe, answer):
+    """Returns the count of the answer if it is a result that least_count may return."""
+    check_network(network)
+    check_index(network, pipe)
+    check_flow_of(network, pipe, answer)
+    count, _, places = answer
+    limits = find_bounds(network)
+    enforced = limits[pipe][0] if places is None else holds_up(network, limits, pipe, places)
+    if count != enforced:
+        raise InvalidAnswer("places")
+    return count
