@@ -1,10 +1,13 @@
 """Tests of wrapcount.residues: points 20 to 23, and the errors of its functions."""
 
+import hashlib
 import unittest
 
-from tests.samples import HUGE, N, N_EXCESS, N_OFF, all_flows, all_place_sets, drawn_network, flowing_network
-from tests.samples import plain_bounds, plain_groups, plain_residues, plain_sum, strange_values
-from wrapcount.errors import GroupSum, InvalidPlaces, NoCount
+from tests.samples import HUGE, N, N_EXCESS, N_OFF, all_flows, all_place_sets, draws, drawn_network, flowing_network
+from tests.samples import large_network, overfull_network, plain_bounds, plain_excess, plain_groups, plain_residues
+from tests.samples import plain_sum, shuffled, strange_values
+from wrapcount.errors import GroupSum, InvalidPlaces, NoCount, WrapcountError
+from wrapcount.networks import open_pipes
 from wrapcount.residues import bounds, excess, group_sums, residues
 
 TOP = 10 ** 12
@@ -12,6 +15,10 @@ TOP = 10 ** 12
 
 def drawn_networks():
     return [make(seed) for seed in range(300) for make in (drawn_network, flowing_network)]
+
+
+def large_networks():
+    return [make(seed)[0] for seed in range(40) for make in (large_network, overfull_network)]
 
 
 def balanced(network):
@@ -266,6 +273,105 @@ class Errors(unittest.TestCase):
         for places in ([0], (7,), (1, 0), (False,), None):
             self.assertNoSet(N_OFF, places)
             self.assertNoSet(self.NO_COUNT, places)
+
+
+class LargeNetworks(unittest.TestCase):
+    # The ends of pipes with the meter 0, beside 23 open pipes.
+    ENDS = (
+        (0, 1), (1, 8), (2, 15), (3, 22), (4, 5), (5, 12), (6, 19), (7, 2), (8, 9), (9, 16), (10, 23), (11, 6),
+        (12, 13), (13, 20), (14, 3), (15, 10), (16, 17), (17, 0), (18, 7), (19, 14), (20, 21), (21, 4), (22, 11),
+        (23, 18), (0, 2), (1, 9), (2, 16), (3, 23), (4, 6), (5, 13), (6, 20), (7, 3), (8, 10), (9, 17), (10, 0),
+        (11, 7), (12, 14),
+    )
+    STAR = tuple((0, place) for place in range(1, 24))
+    ROW = tuple((place, place + 1) for place in range(23))
+    INWARDS = tuple((place, place // 2) for place in range(1, 24))
+
+    def made(self, links, meters=(0,) * 37):
+        pipes = [ends + (0, TOP, None) for ends in links]
+        pipes += [ends + (0, TOP, meter) for ends, meter in zip(self.ENDS, meters)]
+        return (10 ** 6, 24, tuple(pipes))
+
+    def test_a_star_of_open_pipes(self):
+        network = self.made(self.STAR)
+        self.assertEqual(excess(network, (0, 3, 7)), -26 * TOP)
+        self.assertEqual(excess(network, ()), 0)
+        self.assertEqual(excess(network, tuple(range(24))), 0)
+        self.assertEqual(group_sums(network), ((tuple(range(24)), 0),))
+        self.assertEqual(residues(network), (0,) * 60)
+        self.assertEqual(bounds(network), ((0, TOP),) * 60)
+
+    def test_open_pipes_of_every_shape(self):
+        for seed in range(12):
+            draw = draws(seed)
+            meters = [draw(0, 999999) for _ in self.ENDS]
+            for links in (self.STAR, self.ROW, self.INWARDS, tuple(shuffled(self.INWARDS, draw))):
+                network = self.made(links, meters)
+                self.assertEqual(open_pipes(network), tuple(range(23)))
+                self.assertEqual(group_sums(network), ((tuple(range(24)), 0),))
+                self.assertEqual(residues(network), plain_residues(network))
+                limits = [(residue, TOP - (10 ** 6 - residue if residue else 0)) for residue in residues(network)]
+                self.assertEqual(bounds(network), tuple(limits))
+                for _ in range(5):
+                    places = tuple(sorted(shuffled(range(24), draw)[:draw(0, 24)]))
+                    self.assertEqual(excess(network, places), plain_excess(network, limits, places))
+
+    def test_groups_of_every_shape(self):
+        for seed in range(12):
+            draw = draws(seed)
+            links = shuffled(self.INWARDS, draw)[:draw(5, 22)]
+            network = self.made(links, [draw(0, 999999) for _ in self.ENDS])
+            expected = tuple((group, plain_sum(network, group)) for group in plain_groups(network))
+            self.assertEqual(group_sums(network), expected)
+            self.assertEqual(len(expected), 24 - len(links))
+
+    def test_agree_with_the_definition(self):
+        for network in large_networks():
+            self.assertEqual(group_sums(network), tuple((group, 0) for group in plain_groups(network)))
+            self.assertEqual(residues(network), plain_residues(network))
+            for (least, most), residue, (_, _, low, high, _) in zip(bounds(network), residues(network), network[2]):
+                self.assertEqual((least % network[0], most % network[0]), (residue, residue))
+                self.assertTrue(low <= least < low + network[0] and high - network[0] < most <= high)
+            for start in range(6):
+                places = tuple(range(start, 24, start + 1))
+                self.assertEqual(excess(network, places), plain_excess(network, bounds(network), places))
+
+
+class Recorded(unittest.TestCase):
+    """The answers and errors that the first version of these functions gave, by their digest."""
+
+    def networks(self):
+        return drawn_networks() + large_networks()
+
+    def assertRecorded(self, digest, calls):
+        told = hashlib.sha256()
+        for function, arguments in calls:
+            try:
+                line = repr(function(*arguments))
+            except WrapcountError as error:
+                line = f"{error.__class__.__name__} {vars(error)}"
+            told.update(f"{line}\n".encode())
+        self.assertEqual(told.hexdigest(), digest)
+
+    def test_group_sums(self):
+        self.assertRecorded("5cf2b10d0e6a641548dfa12288c1ba94cc4ed0a7c3e9be74c9946a1e34be563c",
+                            [(group_sums, (network,)) for network in self.networks()])
+
+    def test_residues(self):
+        self.assertRecorded("3e9856caa109bb4c2ee3f5ab91d94eaf894e4a39dc0db281a624435acba446e9",
+                            [(residues, (network,)) for network in self.networks()])
+
+    def test_bounds(self):
+        self.assertRecorded("0895f784d8df13a206da388b057e0d9b9d0d3dd2ff2b995c94f0d45a41d99f70",
+                            [(bounds, (network,)) for network in self.networks()])
+
+    def test_excess(self):
+        wide = [tuple(range(start, 24, step)) for start in range(5) for step in range(1, 6)]
+        calls = []
+        for network in self.networks():
+            sets = all_place_sets(network[1]) if network[1] < 6 else wide
+            calls += [(excess, (network, places)) for places in sets]
+        self.assertRecorded("c53be6f4c7a7e48fde6cee48fd110799969276a7c0f61206f40a8262315156fe", calls)
 
 
 if __name__ == "__main__":

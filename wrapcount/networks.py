@@ -10,7 +10,7 @@ MAX_COUNT = 10 ** 12
 
 def is_between(value, low, high):
     """Tells whether the value, of any kind, is an integer from low to high."""
-    return isinstance(value, int) and not isinstance(value, bool) and low <= value <= high
+    return isinstance(value, int) and value is not True and value is not False and low <= value <= high
 
 
 def is_pipe(value, modulus, places):
@@ -18,13 +18,16 @@ def is_pipe(value, modulus, places):
     if not isinstance(value, tuple) or len(value) != 5:
         return False
     source, target, low, high, meter = value
+    # Every call looks at every pipe: here, is_between would take longer than all the rest.
     return (
-        is_between(source, 0, places - 1)
-        and is_between(target, 0, places - 1)
-        and source != target
-        and is_between(high, 0, MAX_COUNT)
-        and is_between(low, 0, high)
-        and (meter is None or is_between(meter, 0, modulus - 1))
+        isinstance(source, int) and source is not True and source is not False
+        and isinstance(target, int) and target is not True and target is not False
+        and isinstance(low, int) and low is not True and low is not False
+        and isinstance(high, int) and high is not True and high is not False
+        and 0 <= source < places and 0 <= target < places and source != target
+        and 0 <= low <= high <= MAX_COUNT
+        and (meter is None or isinstance(meter, int) and meter is not True and meter is not False
+             and 0 <= meter < modulus)
     )
 
 
@@ -33,52 +36,54 @@ def is_open_pipe(pipe):
     return pipe[4] is None and pipe[2] < pipe[3]
 
 
-def open_neighbours(places, pipes):
-    """Returns for each place the pairs (index, other place) of its open pipes."""
-    near = [[] for _ in range(places)]
-    for index, pipe in enumerate(pipes):
-        if is_open_pipe(pipe):
-            near[pipe[0]].append((index, pipe[1]))
-            near[pipe[1]].append((index, pipe[0]))
-    return near
+def find_branches(places, pipes):
+    """Returns the triples (index, place, other) of all open pipes and their ends, or None if they contain a ring.
 
-
-def joined_places(near, start, skipped=None):
-    """Returns, ascending, what open pipes other than the skipped one join to the start."""
-    joined = {start: True}
-    waiting = [start]
-    while waiting:
-        place = waiting.pop()
-        for index, other in near[place]:
-            if index != skipped and other not in joined:
-                joined[other] = True
-                waiting.append(other)
-    return tuple(sorted(joined))
-
-
-def find_groups(places, pipes):
-    """Returns the ascending tuple of all groups."""
-    near = open_neighbours(places, pipes)
-    found = []
-    seen = {}
+    No open pipe behind a triple in the list touches its place: all that is joined to the rest of
+    the group by this pipe alone stands before it.
+    """
+    many = [0] * places
+    # The sum of the indexes of the open pipes of each place. If there is only one, it is its index.
+    links = [0] * places
+    count = 0
+    for index, (source, target, low, high, meter) in enumerate(pipes):
+        if meter is None and low < high:
+            count += 1
+            many[source] += 1
+            many[target] += 1
+            links[source] += index
+            links[target] += index
+    branches = []
     for place in range(places):
-        if place not in seen:
-            group = joined_places(near, place)
-            found.append(group)
-            for member in group:
-                seen[member] = True
-    return tuple(found)
+        # Taking away the only open pipe of a place may leave its other end with only one.
+        end = place
+        while many[end] == 1:
+            index = links[end]
+            pipe = pipes[index]
+            other = pipe[1] if end == pipe[0] else pipe[0]
+            branches.append((index, end, other))
+            many[end] = 0
+            many[other] -= 1
+            links[other] -= index
+            end = other
+    # In a ring no place is ever left with only one.
+    return branches if len(branches) == count else None
 
 
-def has_ring(places, pipes):
-    """Tells whether the open pipes contain a ring."""
-    # An open pipe that closes no ring makes one group of two, any other one changes no group.
-    joins = places - len(find_groups(places, pipes))
-    return joins < len([pipe for pipe in pipes if is_open_pipe(pipe)])
+def find_groups(places, branches):
+    """Returns the ascending tuple of all groups."""
+    # The place at which all branches of a group end stands for the group.
+    stems = list(range(places))
+    for _, place, other in reversed(branches):
+        stems[place] = stems[other]
+    members = {}
+    for place, stem in enumerate(stems):
+        members.setdefault(stem, []).append(place)
+    return tuple([tuple(group) for group in members.values()])
 
 
-def check_network(value):
-    """Returns None if the value is a network, and raises the first error that applies otherwise."""
+def checked_branches(value):
+    """Returns the branches of the value if it is a network, and raises the first error that applies otherwise."""
     if not isinstance(value, tuple) or len(value) != 3:
         raise InvalidNetwork("form")
     modulus, places, pipes = value
@@ -91,8 +96,15 @@ def check_network(value):
     for index, pipe in enumerate(pipes):
         if not is_pipe(pipe, modulus, places):
             raise InvalidPipe(index)
-    if has_ring(places, pipes):
+    branches = find_branches(places, pipes)
+    if branches is None:
         raise InvalidNetwork("ring")
+    return branches
+
+
+def check_network(value):
+    """Returns None if the value is a network, and raises the first error that applies otherwise."""
+    checked_branches(value)
 
 
 def is_network(value):
@@ -143,8 +155,8 @@ def open_pipes(network):
 
 def groups(network):
     """Returns the ascending tuple of all groups."""
-    check_network(network)
-    return find_groups(network[1], network[2])
+    branches = checked_branches(network)
+    return find_groups(network[1], branches)
 
 
 def enters(pipe, places):

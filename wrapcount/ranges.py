@@ -3,17 +3,16 @@
 from wrapcount.decisions import find_decision
 from wrapcount.errors import InvalidAnswer, NoFlow
 from wrapcount.flows import find_fault
-from wrapcount.networks import check_index, check_network, enters, is_between, is_place_set, leaves
-from wrapcount.residues import find_bounds, find_excess
-from wrapcount.trials import Trial
+from wrapcount.networks import check_index, checked_branches, enters, is_between, is_place_set, leaves
+from wrapcount.residues import checked_bounds, find_excess
 
 
-def flowing_trial(network):
-    """Returns a trial whose counts are a flow, or raises NoFlow with the reason why there is none."""
-    answer = find_decision(network)
-    if answer[0] != "flow":
+def flowing_trial(network, branches):
+    """Returns a trial whose counts are a flow, and raises NoFlow if there is none."""
+    answer, trial = find_decision(network, branches)
+    if trial is None:
         raise NoFlow(answer)
-    return Trial(network, find_bounds(network), answer[1])
+    return trial
 
 
 def raise_count(trial, network, pipe):
@@ -30,25 +29,25 @@ def lower_count(trial, network, pipe):
 
 def greatest_count(network, pipe):
     """Returns the triple of the greatest possible count of the pipe, a flow with it, and what enforces it."""
-    check_network(network)
+    branches = checked_branches(network)
     check_index(network, pipe)
-    trial = flowing_trial(network)
+    trial = flowing_trial(network, branches)
     places = raise_count(trial, network, pipe)
     return (trial.count_of(pipe), trial.counts(), places)
 
 
 def least_count(network, pipe):
     """Returns the triple of the least possible count of the pipe, a flow with it, and what enforces it."""
-    check_network(network)
+    branches = checked_branches(network)
     check_index(network, pipe)
-    trial = flowing_trial(network)
+    trial = flowing_trial(network, branches)
     places = lower_count(trial, network, pipe)
     return (trial.count_of(pipe), trial.counts(), places)
 
 
-def find_ranges(network):
-    """Returns the pairs (least possible count, greatest possible count) of all pipes. The network is valid."""
-    trial = flowing_trial(network)
+def ranges(network):
+    """Returns the tuple of the pairs (least possible count, greatest possible count) of all pipes."""
+    trial = flowing_trial(network, checked_branches(network))
     found = []
     for pipe in range(len(network[2])):
         lower_count(trial, network, pipe)
@@ -56,12 +55,6 @@ def find_ranges(network):
         raise_count(trial, network, pipe)
         found.append((least, trial.count_of(pipe)))
     return tuple(found)
-
-
-def ranges(network):
-    """Returns the tuple of the pairs (least possible count, greatest possible count) of all pipes."""
-    check_network(network)
-    return find_ranges(network)
 
 
 def check_flow_of(network, pipe, answer):
@@ -90,12 +83,12 @@ def holds_up(network, limits, pipe, places):
 
 def check_greatest(network, pipe, answer):
     """Returns the count of the answer if it is a result that greatest_count may return."""
-    check_network(network)
+    branches = checked_branches(network)
     check_index(network, pipe)
     check_flow_of(network, pipe, answer)
     count, _, places = answer
     # There is a flow, so all pipes have bounds.
-    limits = find_bounds(network)
+    limits = checked_bounds(network, branches)
     enforced = limits[pipe][1] if places is None else holds_down(network, limits, pipe, places)
     if count != enforced:
         raise InvalidAnswer("places")
@@ -104,11 +97,11 @@ def check_greatest(network, pipe, answer):
 
 def check_least(network, pipe, answer):
     """Returns the count of the answer if it is a result that least_count may return."""
-    check_network(network)
+    branches = checked_branches(network)
     check_index(network, pipe)
     check_flow_of(network, pipe, answer)
     count, _, places = answer
-    limits = find_bounds(network)
+    limits = checked_bounds(network, branches)
     enforced = limits[pipe][0] if places is None else holds_up(network, limits, pipe, places)
     if count != enforced:
         raise InvalidAnswer("places")
