@@ -63,6 +63,8 @@ WRONG_NETWORKS = [
     ((10, 3, N[2] + ((False, 1, 0, 9, 5),)), InvalidPipe, 4),
     ((10, 2, RING[2] + ((0, 1, 0, 9, 10),)), InvalidPipe, 2),
     (RING, InvalidNetwork, "ring"),
+    ((10, 2, ((0, 1, 0, 9, None), (0, 1, 0, 9, None))), InvalidNetwork, "ring"),
+    ((10, 3, ((0, 1, 0, 9, None), (2, 1, 0, 9, None), (2, 0, 0, 9, None))), InvalidNetwork, "ring"),
 ]
 NO_PLACES = [[], [0], (0, 0), (1, 0), (3,), (-1,), (True,), (HUGE,), None, 0, crowded(2), (crowded(3),)]
 

@@ -57,14 +57,21 @@ def ranges(network):
     return tuple(found)
 
 
-def check_flow_of(network, pipe, answer):
-    """Raises InvalidAnswer if the value is not a triple of a count, a flow with it, and an item of any kind."""
+def checked_limits(network, pipe, answer):
+    """Returns the bounds of all pipes if the answer, of any kind, begins with a count of the pipe and a flow with it.
+
+    Raises the first error that applies otherwise.
+    """
+    branches = checked_branches(network)
+    check_index(network, pipe)
     if not isinstance(answer, tuple) or len(answer) != 3:
         raise InvalidAnswer("form")
     if find_fault(network, answer[1]) is not None:
         raise InvalidAnswer("flow")
     if not is_between(answer[0], answer[1][pipe], answer[1][pipe]):
         raise InvalidAnswer("count")
+    # There is a flow, so all pipes have bounds.
+    return checked_bounds(network, branches)
 
 
 def holds_down(network, limits, pipe, places):
@@ -83,26 +90,17 @@ def holds_up(network, limits, pipe, places):
 
 def check_greatest(network, pipe, answer):
     """Returns the count of the answer if it is a result that greatest_count may return."""
-    branches = checked_branches(network)
-    check_index(network, pipe)
-    check_flow_of(network, pipe, answer)
+    limits = checked_limits(network, pipe, answer)
     count, _, places = answer
-    # There is a flow, so all pipes have bounds.
-    limits = checked_bounds(network, branches)
-    enforced = limits[pipe][1] if places is None else holds_down(network, limits, pipe, places)
-    if count != enforced:
+    if count != (limits[pipe][1] if places is None else holds_down(network, limits, pipe, places)):
         raise InvalidAnswer("places")
     return count
 
 
 def check_least(network, pipe, answer):
     """Returns the count of the answer if it is a result that least_count may return."""
-    branches = checked_branches(network)
-    check_index(network, pipe)
-    check_flow_of(network, pipe, answer)
+    limits = checked_limits(network, pipe, answer)
     count, _, places = answer
-    limits = checked_bounds(network, branches)
-    enforced = limits[pipe][0] if places is None else holds_up(network, limits, pipe, places)
-    if count != enforced:
+    if count != (limits[pipe][0] if places is None else holds_up(network, limits, pipe, places)):
         raise InvalidAnswer("places")
     return count
