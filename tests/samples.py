@@ -267,3 +267,45 @@ def overfull_network(seed):
         # An open pipe that becomes closed keeps its count, and so its residue.
         changed.append((source, target, low, high, meter))
     return (modulus, 24, tuple(changed)), places
+
+
+def small_networks(many):
+    """Returns pairs of a small network and the ascending list of its flows, with and without flows."""
+    drawn = [make(seed) for seed in range(many) for make in (drawn_network, flowing_network)]
+    return [(network, sorted(all_flows(network))) for network in drawn]
+
+
+def plain_loose(flows):
+    """Returns the loose pipes, by [45], from the list of all flows."""
+    return tuple(index for index, column in enumerate(zip(*flows)) if len(set(column)) > 1)
+
+
+def is_plain_key(network, loose, pipes):
+    """Tells whether the set of pipes is a key, by [45]."""
+    return not closes_ring(network[1], [network[2][index] for index in loose if index not in pipes])
+
+
+def all_pipe_sets(network):
+    """Returns all sets of pipes of a small network."""
+    many = len(network[2])
+    return [tuple(index for index in range(many) if number >> index & 1) for number in range(2 ** many)]
+
+
+def with_meter(network, index, meter):
+    """Returns the network in which the pipe has another meter."""
+    modulus, places, pipes = network
+    return (modulus, places, pipes[:index] + (pipes[index][:4] + (meter,),) + pipes[index + 1:])
+
+
+def crossing(chosen, many, modulus=10):
+    """Returns a network in which just so many of these pipes can have the count of the modulus, the others 0."""
+    pipes = tuple((0, 1, 0, modulus, 0) for _ in range(many))
+    return (modulus, 2, pipes + ((1, 0, chosen * modulus, chosen * modulus, 0),))
+
+
+def single_rings(many, spread):
+    """Returns a network of rings of two places each, with spread + 1 flows on each of them."""
+    pipes = []
+    for ring in range(many):
+        pipes += [(2 * ring, 2 * ring + 1, 0, 10 * spread + 9, 3), (2 * ring + 1, 2 * ring, 0, 10 ** 12, None)]
+    return (10, 2 * many, tuple(pipes))

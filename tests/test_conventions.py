@@ -8,9 +8,10 @@ import weakref
 from copy import deepcopy
 
 from tests.samples import HUGE, N, N_EXCESS, N_OFF, crowded, drawn_network, nested, strange_values
-from wrapcount import decisions, flows, networks, ranges, residues, variants
+from wrapcount import cheapest, corrections, decisions, flows, keys, listing, networks, ranges, residues, variants
 from wrapcount.errors import GroupSum, InvalidAnswer, InvalidFlow, InvalidNetwork, InvalidOrder, InvalidPipe
-from wrapcount.errors import InvalidPlaces, NetworkMismatch, NoCount, NoFlow, WrapcountError
+from wrapcount.errors import InvalidPipes, InvalidPlaces, InvalidRank, InvalidWeights, LimitExceeded, NetworkMismatch
+from wrapcount.errors import NoCount, NoFlow, WrapcountError
 
 FLOW = (5, 2, 2, 3)
 RING = (10, 2, ((0, 1, 0, 9, None), (1, 0, 0, 9, None)))
@@ -39,6 +40,18 @@ FUNCTIONS = [
     (variants, "reverse_pipes", ["network"], (N,)),
     (variants, "renumber_places", ["network", "order"], (N, (2, 0, 1))),
     (variants, "add_networks", ["one", "other"], (N, N)),
+    (cheapest, "cheapest_flow", ["network", "weights"], (N, (1, 0, 0, 1))),
+    (cheapest, "check_cheapest", ["network", "weights", "answer"], (N, (1, 0, 0, 1), (8, FLOW, (0, 0, 0)))),
+    (keys, "loose_pipes", ["network"], (N,)),
+    (keys, "is_key", ["network", "pipes"], (N, (0,))),
+    (keys, "flow_by_key", ["network", "counts"], (N, ((0, 15),))),
+    (keys, "cheapest_key", ["network", "costs"], (N, (5, 1, 1, 2))),
+    (keys, "check_cheapest_key", ["network", "costs", "answer"], (N, (5, 1, 1, 2), (2, (3,)))),
+    (corrections, "corrections", ["network"], (N_OFF,)),
+    (listing, "list_flows", ["network"], (N,)),
+    (listing, "count_flows", ["network"], (N,)),
+    (listing, "flow_by_rank", ["network", "rank"], (N, 1)),
+    (listing, "rank_of_flow", ["network", "flow"], (N, (15, 2, 2, 13))),
 ]
 # These return False instead of raising an error, for the arguments that they are asked about.
 TELLING = ("is_network", "is_flow")
@@ -113,6 +126,14 @@ class Interface(unittest.TestCase):
         self.assertEqual(ranges.check_greatest(pipe=1, answer=(2, FLOW, None), network=N), 2)
         self.assertEqual(variants.renumber_places(order=(0, 1, 2), network=N), N)
         self.assertEqual(variants.add_networks(other=(10, 3, ()), one=(10, 3, ())), (10, 3, ()))
+        self.assertEqual(cheapest.cheapest_flow(weights=(1, 0, 0, 1), network=N)[:2], (8, FLOW))
+        self.assertEqual(cheapest.check_cheapest(answer=(8, FLOW, (0, 0, 0)), weights=(1, 0, 0, 1), network=N), 8)
+        self.assertIs(keys.is_key(pipes=(0,), network=N), True)
+        self.assertEqual(keys.flow_by_key(counts=((0, 15),), network=N), (15, 2, 2, 13))
+        self.assertEqual(keys.cheapest_key(costs=(5, 1, 1, 2), network=N), (2, (3,)))
+        self.assertEqual(keys.check_cheapest_key(answer=(2, (3,)), costs=(5, 1, 1, 2), network=N), 2)
+        self.assertEqual(listing.flow_by_rank(rank=1, network=N), (15, 2, 2, 13))
+        self.assertEqual(listing.rank_of_flow(flow=(15, 2, 2, 13), network=N), 1)
 
     def test_kinds_of_the_results(self):
         def kinds(value):
@@ -148,6 +169,21 @@ class Interface(unittest.TestCase):
         self.assertEqual(kinds(variants.reverse_pipes(N)), network)
         self.assertEqual(kinds(variants.renumber_places(N, (2, 0, 1))), network)
         self.assertEqual(kinds(variants.add_networks(N, N)), network)
+        self.assertEqual(kinds(cheapest.cheapest_flow(N, (1, 0, 0, 1))), [int, [int] * 4, [int] * 3])
+        self.assertEqual(kinds(cheapest.check_cheapest(N, (1, 0, 0, 1), (8, FLOW, (0, 0, 0)))), int)
+        self.assertEqual(kinds(keys.loose_pipes(N)), [int] * 2)
+        self.assertIs(keys.is_key(N, (0,)), True)
+        self.assertIs(keys.is_key(N, ()), False)
+        self.assertEqual(kinds(keys.flow_by_key(N, ((0, 15),))), [int] * 4)
+        self.assertIs(keys.flow_by_key(N, ((0, 16),)), None)
+        self.assertEqual(kinds(keys.cheapest_key(N, (5, 1, 1, 2))), [int, [int]])
+        self.assertEqual(kinds(keys.check_cheapest_key(N, (5, 1, 1, 2), (2, (3,)))), int)
+        self.assertEqual(kinds(corrections.corrections(N_OFF)), [[int, int]] * 3)
+        self.assertIs(type(listing.list_flows(N)), list)
+        self.assertEqual([kinds(flow) for flow in listing.list_flows(N)], [[int] * 4] * 10)
+        self.assertEqual(kinds(listing.count_flows(N)), int)
+        self.assertEqual(kinds(listing.flow_by_rank(N, 1)), [int] * 4)
+        self.assertEqual(kinds(listing.rank_of_flow(N, FLOW)), int)
 
 
 class WrongNetworks(unittest.TestCase):
@@ -233,6 +269,35 @@ class OrderOfErrors(unittest.TestCase):
             self.assertRaises(NoFlow, ranges.ranges, network)
             self.assertRaises(InvalidAnswer, decisions.check_decision, network, None)
 
+    def test_weights_and_pipes_before_reasons_before_answers(self):
+        for network in (N_OFF, self.NO_COUNT, N_EXCESS):
+            costs = (1,) * len(network[2])
+            for function in (cheapest.check_cheapest, keys.check_cheapest_key):
+                self.assertRaises(InvalidWeights, function, network, None, None)
+                self.assertRaises(NoFlow, function, network, costs, None)
+            for function in (cheapest.cheapest_flow, keys.cheapest_key):
+                self.assertRaises(InvalidWeights, function, network, costs[1:])
+                self.assertRaises(NoFlow, function, network, costs)
+            for function in (keys.is_key, keys.flow_by_key):
+                self.assertRaises(InvalidPipes, function, network, None)
+                self.assertRaises(NoFlow, function, network, ())
+            self.assertRaises(NoFlow, keys.loose_pipes, network)
+            self.assertRaises(InvalidRank, listing.flow_by_rank, network, 0)
+            self.assertRaises(InvalidFlow, listing.rank_of_flow, network, ())
+            self.assertEqual((listing.list_flows(network), listing.count_flows(network)), ([], 0))
+        for function in (cheapest.check_cheapest, keys.check_cheapest_key):
+            self.assertRaises(InvalidAnswer, function, N, (1,) * 4, None)
+
+    def test_limits_before_other_arguments(self):
+        many = (101, 2, ((0, 1, 0, 10 ** 12, 0), (1, 0, 0, 10 ** 12, 0)))
+        calls = [lambda: listing.list_flows(many), lambda: listing.count_flows(many)]
+        calls += [lambda: listing.flow_by_rank(many, None), lambda: listing.rank_of_flow(many, None)]
+        calls += [lambda: corrections.corrections(many)]
+        for call, limit in zip(calls, (500, 500, 500, 500, 100)):
+            with self.assertRaises(LimitExceeded) as caught:
+                call()
+            self.assertEqual(caught.exception.limit, limit)
+
     def test_fields_are_the_very_objects(self):
         for value in strange_values() + [HUGE, -HUGE, -1, 4, (1, 0)]:
             for function, others in ((networks.is_open, ()), (ranges.greatest_count, ()), (ranges.least_count, ()),
@@ -247,6 +312,14 @@ class OrderOfErrors(unittest.TestCase):
                 with self.assertRaises(InvalidPlaces) as caught:
                     function(N, value)
                 self.assertIs(caught.exception.value, value)
+            with self.assertRaises(InvalidRank) as caught:
+                listing.flow_by_rank(N, (value,))
+            self.assertIs(caught.exception.value[0], value)
+        for value in strange_values() + [HUGE, -HUGE, -1, 4, (1, 0)]:
+            for function in (keys.is_key, keys.flow_by_key):
+                with self.assertRaises(InvalidPipes) as caught:
+                    function(N, value)
+                self.assertIs(caught.exception.value, value)
 
     def test_errors_can_be_shown_whatever_was_passed(self):
         for value in (crowded(2), crowded(5), nested(100, lambda value: [value])):
@@ -257,6 +330,11 @@ class OrderOfErrors(unittest.TestCase):
             calls += [lambda network, value: ranges.check_least(network, 0, value)]
             calls += [lambda network, value: decisions.check_decision(network, (value, value))]
             calls += [lambda network, value: flows.check_flow(network, (value,) * 4)]
+            calls += [cheapest.cheapest_flow, keys.is_key, keys.flow_by_key, keys.cheapest_key, listing.flow_by_rank]
+            calls += [listing.rank_of_flow]
+            calls += [lambda network, value: cheapest.cheapest_flow(network, (value,) * 4)]
+            calls += [lambda network, value: cheapest.check_cheapest(network, (1,) * 4, value)]
+            calls += [lambda network, value: keys.check_cheapest_key(network, (1,) * 4, (value, value))]
             for function in calls:
                 with self.assertRaises(WrapcountError) as caught:
                     function(N, value)
@@ -289,17 +367,20 @@ class Arguments(unittest.TestCase):
             pipes = tuple([(0, 1, 0, 99, int("5")), (1, 0, 0, 99, None)])
             network, places, flow = tuple([10, 2, pipes]), tuple([int("1")]), tuple([95, int("95")])
             low = tuple([5, int("5")])
+            ones, none = tuple([1, int("1")]), tuple([0, int("0")])
             answers = {"check_decision": tuple(["flow", flow]), "check_greatest": tuple([95, flow, None]),
-                       "check_least": tuple([5, low, None])}
+                       "check_least": tuple([5, low, None]), "check_cheapest": tuple([10, low, none]),
+                       "check_cheapest_key": tuple([1, places])}
             made = {"places": places, "pipe": 0, "order": tuple([1, int("0")]), "other": network, "network": network,
                     "one": network, "value": network if name in ("check_network", "is_network") else flow,
-                    "answer": answers.get(name)}
-            held = (network, pipes, pipes[0], pipes[1], places, flow, low, made["order"], made["answer"])
-            before = [sys.getrefcount(value) for value in held[:8]] + [sys.getrefcount(held[8]) * (held[8] is not None)]
+                    "answer": answers.get(name, answers), "weights": ones, "costs": ones, "pipes": places,
+                    "counts": tuple([tuple([1, int("95")])]), "rank": 9, "flow": flow}
+            held = [network, pipes, pipes[0], pipes[1], places, flow, low, ones, none]
+            held += [made["order"], made["answer"], made["counts"], made["counts"][0]]
+            before = [sys.getrefcount(value) for value in held]
             getattr(module, name)(*[made[parameter] for parameter in parameters])
             gc.collect()
-            after = [sys.getrefcount(value) for value in held[:8]] + [sys.getrefcount(held[8]) * (held[8] is not None)]
-            self.assertEqual(after, before, name)
+            self.assertEqual([sys.getrefcount(value) for value in held], before, name)
 
     def test_wrong_arguments_are_not_kept(self):
         for module, name, _, arguments in FUNCTIONS:

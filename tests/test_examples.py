@@ -2,9 +2,13 @@
 
 import unittest
 
+from wrapcount.cheapest import check_cheapest, cheapest_flow
+from wrapcount.corrections import corrections
 from wrapcount.decisions import check_decision, decide
 from wrapcount.errors import InvalidAnswer, InvalidFlow, InvalidNetwork
 from wrapcount.flows import check_flow, is_flow
+from wrapcount.keys import cheapest_key, check_cheapest_key, flow_by_key, is_key, loose_pipes
+from wrapcount.listing import count_flows, flow_by_rank, list_flows, rank_of_flow
 from wrapcount.networks import check_network, entering, groups, is_network, is_open, leaving, open_pipes
 from wrapcount.ranges import check_greatest, greatest_count, least_count, ranges
 from wrapcount.residues import bounds, excess, group_sums, residues
@@ -125,6 +129,74 @@ class Variants(unittest.TestCase):
         self.assertEqual(
             add_networks((10, 2, ((0, 1, 0, 9, 5),)), (10, 2, ((0, 1, 7, 20, 8),))),
             (10, 2, ((0, 1, 7, 29, 3),)))
+
+
+class Cheapest(unittest.TestCase):
+    def test_cheapest_flow(self):
+        self.assertEqual(
+            cheapest_flow((10, 3, ((0, 1, 0, 99, 5), (1, 2, 0, 9, None), (2, 0, 0, 99, 2), (1, 0, 0, 99, 3))),
+                          (1, 0, 0, 1))[:2],
+            (8, (5, 2, 2, 3)))
+
+    def test_check_cheapest(self):
+        self.assertEqual(
+            check_cheapest((10, 3, ((0, 1, 0, 99, 5), (1, 2, 0, 9, None), (2, 0, 0, 99, 2), (1, 0, 0, 99, 3))),
+                           (1, 0, 0, 1), (8, (5, 2, 2, 3), (0, 0, 0))),
+            8)
+
+
+class Keys(unittest.TestCase):
+    def test_loose_pipes(self):
+        self.assertEqual(
+            loose_pipes((10, 3, ((0, 1, 0, 99, 5), (1, 2, 0, 9, None), (2, 0, 0, 99, 2), (1, 0, 0, 99, 3)))),
+            (0, 3))
+
+    def test_is_key(self):
+        self.assertEqual(
+            (is_key((10, 3, ((0, 1, 0, 99, 5), (1, 2, 0, 9, None), (2, 0, 0, 99, 2), (1, 0, 0, 99, 3))), (0,)),
+             is_key((10, 3, ((0, 1, 0, 99, 5), (1, 2, 0, 9, None), (2, 0, 0, 99, 2), (1, 0, 0, 99, 3))), ())),
+            (True, False))
+
+    def test_flow_by_key(self):
+        self.assertEqual(
+            flow_by_key((10, 3, ((0, 1, 0, 99, 5), (1, 2, 0, 9, None), (2, 0, 0, 99, 2), (1, 0, 0, 99, 3))),
+                        ((0, 15),)),
+            (15, 2, 2, 13))
+
+    def test_cheapest_key(self):
+        self.assertEqual(
+            cheapest_key((10, 3, ((0, 1, 0, 99, 5), (1, 2, 0, 9, None), (2, 0, 0, 99, 2), (1, 0, 0, 99, 3))),
+                         (5, 1, 1, 2)),
+            (2, (3,)))
+
+    def test_check_cheapest_key(self):
+        with self.assertRaises(InvalidAnswer) as caught:
+            check_cheapest_key((10, 3, ((0, 1, 0, 99, 5), (1, 2, 0, 9, None), (2, 0, 0, 99, 2), (1, 0, 0, 99, 3))),
+                               (5, 1, 1, 2), (5, (0,)))
+        self.assertEqual(caught.exception.part, "cost")
+
+
+class Corrections(unittest.TestCase):
+    def test_corrections(self):
+        self.assertEqual(
+            corrections((10, 3, ((0, 1, 0, 99, 5), (1, 2, 0, 9, None), (2, 0, 0, 99, 2), (1, 0, 0, 99, 4)))),
+            ((0, 6), (2, 1), (3, 3)))
+
+
+class Listing(unittest.TestCase):
+    def test_list_flows(self):
+        self.assertEqual(
+            list_flows((10, 2, ((0, 1, 0, 25, 5), (1, 0, 0, 99, 5)))),
+            [(5, 5), (15, 15), (25, 25)])
+
+    def test_count_flows(self):
+        self.assertEqual(count_flows((10, 2, ((0, 1, 0, 25, 5), (1, 0, 0, 99, 5)))), 3)
+
+    def test_flow_by_rank(self):
+        self.assertEqual(flow_by_rank((10, 2, ((0, 1, 0, 25, 5), (1, 0, 0, 99, 5))), 1), (15, 15))
+
+    def test_rank_of_flow(self):
+        self.assertEqual(rank_of_flow((10, 2, ((0, 1, 0, 25, 5), (1, 0, 0, 99, 5))), (25, 25)), 2)
 
 
 if __name__ == "__main__":

@@ -2,7 +2,7 @@
 
 from wrapcount.errors import GroupSum, InvalidAnswer, NoCount
 from wrapcount.flows import find_fault
-from wrapcount.networks import checked_branches, is_between, is_place_set
+from wrapcount.networks import checked_branches, is_between, is_number_set
 from wrapcount.residues import checked_bounds, checked_residues, find_bounds, find_excess, find_sums, read_meters
 from wrapcount.trials import Trial
 
@@ -33,7 +33,7 @@ def decide(network):
 
 def is_wrong_group(network, branches, value):
     """Tells whether the value, of any kind, is a group whose sum is not 0."""
-    if not is_place_set(value, network[1]):
+    if not is_number_set(value, network[1]):
         return False
     _, left = read_meters(network, branches)
     return value in [group for group, total in find_sums(network, branches, left) if total != 0]
@@ -52,7 +52,7 @@ def is_unbound_pipe(network, branches, value):
 
 def is_overfull_set(network, branches, value):
     """Tells whether all sums are 0, all pipes have bounds, and the value, of any kind, has a positive excess."""
-    if not is_place_set(value, network[1]):
+    if not is_number_set(value, network[1]):
         return False
     try:
         limits = checked_bounds(network, branches)

@@ -20,12 +20,17 @@ def find_fault(network, value):
     return None
 
 
-def check_flow(network, value):
-    """Returns None if the value is a flow, and raises the first error that applies otherwise."""
-    check_network(network)
+def check_counts(network, value):
+    """Raises InvalidFlow for the first fault if the value is not a flow of the network."""
     fault = find_fault(network, value)
     if fault is not None:
         raise InvalidFlow(fault[0], fault[1])
+
+
+def check_flow(network, value):
+    """Returns None if the value is a flow, and raises the first error that applies otherwise."""
+    check_network(network)
+    check_counts(network, value)
 
 
 def is_flow(network, value):

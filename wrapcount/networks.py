@@ -8,9 +8,14 @@ MAX_PIPES = 60
 MAX_COUNT = 10 ** 12
 
 
+def is_integer(value):
+    """Tells whether the value, of any kind, is an integer."""
+    return isinstance(value, int) and value is not True and value is not False
+
+
 def is_between(value, low, high):
     """Tells whether the value, of any kind, is an integer from low to high."""
-    return isinstance(value, int) and value is not True and value is not False and low <= value <= high
+    return is_integer(value) and low <= value <= high
 
 
 def is_pipe(value, modulus, places):
@@ -122,21 +127,21 @@ def check_index(network, pipe):
         raise InvalidPipe(pipe)
 
 
-def is_place_set(value, places):
-    """Tells whether the value, of any kind, is a set of places."""
+def is_number_set(value, end):
+    """Tells whether the value, of any kind, is an ascending tuple of numbers from 0 to end - 1 without duplicates."""
     if not isinstance(value, tuple):
         return False
     least = 0
-    for place in value:
-        if not is_between(place, least, places - 1):
+    for number in value:
+        if not is_between(number, least, end - 1):
             return False
-        least = place + 1
+        least = number + 1
     return True
 
 
 def check_places(network, places):
     """Raises InvalidPlaces if the value is not a set of places of the network."""
-    if not is_place_set(places, network[1]):
+    if not is_number_set(places, network[1]):
         raise InvalidPlaces(places)
 
 

@@ -3,7 +3,7 @@
 from wrapcount.decisions import find_decision
 from wrapcount.errors import InvalidAnswer, NoFlow
 from wrapcount.flows import find_fault
-from wrapcount.networks import check_index, checked_branches, enters, is_between, is_place_set, leaves
+from wrapcount.networks import check_index, checked_branches, enters, is_between, is_number_set, leaves
 from wrapcount.residues import checked_bounds, find_excess
 
 
@@ -18,13 +18,13 @@ def flowing_trial(network, branches):
 def raise_count(trial, network, pipe):
     """Raises the count of a pipe as far as possible. Returns None, or the places that set the end to it."""
     source, target = network[2][pipe][:2]
-    return trial.exhaust(2 * pipe, target, source)
+    return trial.exhaust(2 * pipe, target, source, trial.room[2 * pipe])
 
 
 def lower_count(trial, network, pipe):
     """Lowers the count of a pipe as far as possible. Returns None, or the places that set the end to it."""
     source, target = network[2][pipe][:2]
-    return trial.exhaust(2 * pipe + 1, source, target)
+    return trial.exhaust(2 * pipe + 1, source, target, trial.room[2 * pipe + 1])
 
 
 def greatest_count(network, pipe):
@@ -45,9 +45,8 @@ def least_count(network, pipe):
     return (trial.count_of(pipe), trial.counts(), places)
 
 
-def ranges(network):
-    """Returns the tuple of the pairs (least possible count, greatest possible count) of all pipes."""
-    trial = flowing_trial(network, checked_branches(network))
+def trial_ranges(trial, network):
+    """Returns the tuple of the ranges of all pipes. The counts of the trial are changed to those of another flow."""
     found = []
     for pipe in range(len(network[2])):
         lower_count(trial, network, pipe)
@@ -55,6 +54,16 @@ def ranges(network):
         raise_count(trial, network, pipe)
         found.append((least, trial.count_of(pipe)))
     return tuple(found)
+
+
+def find_ranges(network, branches):
+    """Returns the tuple of the ranges of all pipes, and raises NoFlow if there is no flow."""
+    return trial_ranges(flowing_trial(network, branches), network)
+
+
+def ranges(network):
+    """Returns the tuple of the pairs (least possible count, greatest possible count) of all pipes."""
+    return find_ranges(network, checked_branches(network))
 
 
 def checked_limits(network, pipe, answer):
@@ -76,14 +85,14 @@ def checked_limits(network, pipe, answer):
 
 def holds_down(network, limits, pipe, places):
     """Returns the count above which the pipe cannot come by [26], or None if the value is no such set."""
-    if not is_place_set(places, network[1]) or not enters(network[2][pipe], places):
+    if not is_number_set(places, network[1]) or not enters(network[2][pipe], places):
         return None
     return limits[pipe][0] - find_excess(network, limits, places)
 
 
 def holds_up(network, limits, pipe, places):
     """Returns the count below which the pipe cannot come by [27], or None if the value is no such set."""
-    if not is_place_set(places, network[1]) or not leaves(network[2][pipe], places):
+    if not is_number_set(places, network[1]) or not leaves(network[2][pipe], places):
         return None
     return limits[pipe][1] + find_excess(network, limits, places)
 

@@ -4,22 +4,34 @@ from wrapcount.errors import GroupSum, NoCount
 from wrapcount.networks import check_places, checked_branches, find_groups, place_balances
 
 
-def read_meters(network, branches):
-    """Returns the list of the residues of all pipes, and for each place what is left over there.
+def carry_along(network, branches, counts):
+    """Sets the counts of the branches, so that each carries on what the other counts leave over at its place.
 
-    What is left over in a group comes together at one place: it is the sum of the group. The
-    residues of the open pipes are right if all sums are 0.
+    What is left over among places that branches join comes together at one of them. Returns it for
+    each place.
     """
-    modulus, _, pipes = network
-    known = [pipe[2] % modulus if pipe[4] is None else pipe[4] for pipe in pipes]
     for index, _, _ in branches:
-        known[index] = 0
-    left = place_balances(network, known)
+        counts[index] = 0
+    left = place_balances(network, counts)
     for index, place, other in branches:
         carried = left[place]
         left[place] = 0
         left[other] += carried
-        known[index] = (carried if pipes[index][0] == place else -carried) % modulus
+        counts[index] = carried if network[2][index][0] == place else -carried
+    return left
+
+
+def read_meters(network, branches):
+    """Returns the list of the residues of all pipes, and for each place what is left over there.
+
+    The sum of a group is left over at one of its places. The residues of the open pipes are right
+    if all sums are 0.
+    """
+    modulus = network[0]
+    known = [pipe[2] % modulus if pipe[4] is None else pipe[4] for pipe in network[2]]
+    left = carry_along(network, branches, known)
+    for index, _, _ in branches:
+        known[index] %= modulus
     return known, [rest % modulus for rest in left]
 
 

@@ -66,6 +66,12 @@ class Trial:
             self.room[step ^ 1] += amount
         return amount
 
+    def fill(self, step, start, end):
+        """Takes a step that leads from the start to the end as far as its bound, whether or not they balance then."""
+        amount = self.push([step], self.room[step])
+        self.balances[start] -= amount
+        self.balances[end] += amount
+
     def settle(self):
         """Moves what is too much at places to where it is missing, as far as that is possible.
 
@@ -83,14 +89,14 @@ class Trial:
             left[start] -= amount
             left[end] += amount
 
-    def exhaust(self, step, start, end):
-        """Takes a step that leads from the end to the start, as far as others can lead back.
+    def exhaust(self, step, start, end, most):
+        """Takes a step that leads from the end to the start so many times, or as far as others can lead back.
 
-        Returns None if the bound of its pipe ends that, and otherwise the ascending tuple of the
-        places that are reached from the start.
+        Returns None if it was taken so many times, and otherwise the ascending tuple of the places
+        that are reached from the start.
         """
         room = self.room
-        most, back = room[step], room[step ^ 1]
+        ahead, back = room[step], room[step ^ 1]
         # The way back does not use the pipe itself.
         room[step] = room[step ^ 1] = 0
         places = None
@@ -101,6 +107,17 @@ class Trial:
                 places = tuple(sorted(came))
             else:
                 done += self.push(path_to(came, end)[1], most - done)
-        room[step] = most - done
+        room[step] = ahead - done
         room[step ^ 1] = back + done
         return places
+
+    def hold(self, pipe):
+        """Keeps the count of the pipe from being changed. Returns what is needed to let it go."""
+        kept = (self.least[pipe], self.room[2 * pipe], self.room[2 * pipe + 1])
+        self.least[pipe] = self.count_of(pipe)
+        self.room[2 * pipe] = self.room[2 * pipe + 1] = 0
+        return kept
+
+    def let_go(self, pipe, kept):
+        """Lets the count of a pipe that is held be changed again."""
+        self.least[pipe], self.room[2 * pipe], self.room[2 * pipe + 1] = kept
