@@ -309,3 +309,68 @@ def single_rings(many, spread):
     for ring in range(many):
         pipes += [(2 * ring, 2 * ring + 1, 0, 10 * spread + 9, 3), (2 * ring + 1, 2 * ring, 0, 10 ** 12, None)]
     return (10, 2 * many, tuple(pipes))
+
+
+def plain_rounds(plan, readings, levels):
+    """Returns the network of a plan, readings and levels, by [57]."""
+    modulus, places, pipes, tanks = plan
+    number = {(0, at): 0 for at in range(len(readings))}
+    for at in range(len(readings)):
+        for place in range(1, places):
+            number[place, at] = place + at * (places - 1)
+    found = []
+    for at, meters in enumerate(readings):
+        for (source, target, low, high), meter in zip(pipes, meters):
+            found.append((number[source, at], number[target, at], low, high, meter))
+    for at, (place, size) in enumerate(tanks):
+        ways = [(0, number[place, 0])]
+        ways += [(number[place, before], number[place, before + 1]) for before in range(len(readings) - 1)]
+        ways += [(number[place, len(readings) - 1], 0)]
+        for way, (source, target) in enumerate(ways):
+            level = levels[0][at] if way == 0 else levels[1][at] if way == len(readings) else None
+            found.append((source, target) + ((0, size) if level is None else (level, level)) + (None,))
+    return (modulus, len(readings) * (places - 1) + 1, tuple(found))
+
+
+def drawn_rounds(seed, rounds=3, worth=20):
+    """Returns a plan, readings and levels, and the counts and the levels that they are taken from.
+
+    Each round has counts on closed walks, and each tank a pipe from place 0 and one to it.
+    """
+    draw = draws(seed)
+    modulus = draw(2, 2 * worth)
+    places = draw(2, 4)
+    walks = [shuffled(range(places), draw)[:draw(2, places)] for _ in range(draw(1, 2))]
+    tanks = tuple((place, draw(0, 2 * worth)) for place in range(1, places) if draw(0, 1))
+    ends = [pair for walk in walks for pair in zip(walk, walk[1:] + walk[:1])]
+    ends += [pair for place, _ in tanks for pair in ((0, place), (place, 0))]
+    levels = [[draw(0, size)] for _, size in tanks]
+    counts = []
+    for _ in range(rounds):
+        row = []
+        for walk in walks:
+            row += [draw(0, worth)] * len(walk)
+        for (_, size), told in zip(tanks, levels):
+            more, after = draw(0, worth), draw(0, size)
+            # Both pipes have a count, and the level changes by their difference.
+            row += [more + max(0, after - told[-1]), more + max(0, told[-1] - after)]
+            told.append(after)
+        counts.append(tuple(row))
+    spans = [(max(0, min(column) - draw(0, worth)), max(column) + draw(0, worth)) for column in zip(*counts)]
+    plan = (modulus, places, tuple(pair + span for pair, span in zip(ends, spans)), tanks)
+    readings, told = hidden(plan, counts, levels, draw)
+    return plan, readings, told, tuple(counts), tuple(tuple(one) for one in levels)
+
+
+def hidden(plan, counts, levels, draw):
+    """Returns the readings and the levels without some items, but so that the open pipes contain no ring."""
+    modulus = plan[0]
+    readings = [[count % modulus for count in row] for row in counts]
+    told = [[one[0] for one in levels], [one[-1] for one in levels]]
+    for row in readings + told:
+        for at, item in enumerate(row):
+            row[at] = None
+            network = plain_rounds(plan, readings, told)
+            if draw(0, 2) or closes_ring(network[1], [pipe for pipe in network[2] if plainly_open(pipe)]):
+                row[at] = item
+    return tuple(tuple(row) for row in readings), tuple(tuple(row) for row in told)

@@ -3,6 +3,7 @@
 import unittest
 
 from wrapcount.cheapest import check_cheapest, cheapest_flow
+from wrapcount.console import Console
 from wrapcount.corrections import corrections
 from wrapcount.decisions import check_decision, decide
 from wrapcount.errors import InvalidAnswer, InvalidFlow, InvalidNetwork
@@ -11,7 +12,10 @@ from wrapcount.keys import cheapest_key, check_cheapest_key, flow_by_key, is_key
 from wrapcount.listing import count_flows, flow_by_rank, list_flows, rank_of_flow
 from wrapcount.networks import check_network, entering, groups, is_network, is_open, leaving, open_pipes
 from wrapcount.ranges import check_greatest, greatest_count, least_count, ranges
+from wrapcount.record import Record
+from wrapcount.recordtext import read_record, record_text
 from wrapcount.residues import bounds, excess, group_sums, residues
+from wrapcount.rounds import decide_rounds, rounds_network
 from wrapcount.variants import add_networks, renumber_places, reverse_pipes
 
 
@@ -197,6 +201,34 @@ class Listing(unittest.TestCase):
 
     def test_rank_of_flow(self):
         self.assertEqual(rank_of_flow((10, 2, ((0, 1, 0, 25, 5), (1, 0, 0, 99, 5))), (25, 25)), 2)
+
+
+class Rounds(unittest.TestCase):
+    def test_rounds_network(self):
+        self.assertEqual(
+            rounds_network((10, 2, ((0, 1, 0, 20), (1, 0, 0, 20)), ((1, 9),)), ((5, 3), (4, 9)), ((0,), (None,))),
+            (10, 3, ((0, 1, 0, 20, 5), (1, 0, 0, 20, 3), (0, 2, 0, 20, 4), (2, 0, 0, 20, 9), (0, 1, 0, 0, None),
+                     (1, 2, 0, 9, None), (2, 0, 0, 9, None))))
+
+    def test_decide_rounds(self):
+        self.assertEqual(
+            decide_rounds((10, 2, ((0, 1, 0, 20), (1, 0, 0, 20)), ((1, 9),)), ((5, 3), (4, 9)), ((0,), (None,)))[2],
+            ((0, 2, 7),))
+
+
+class Records(unittest.TestCase):
+    def test_record(self):
+        record = Record((10, 3, ((0, 1, 0, 99, 5), (1, 2, 0, 9, None), (2, 0, 0, 99, 2), (1, 0, 0, 99, 3))))
+        record.read(3, 4)
+        self.assertEqual(record.decide()[0], "sum")
+
+    def test_record_text(self):
+        self.assertEqual(
+            record_text(read_record("network 10 2\npipe 0 1 0 99 5\npipe 1 0 0 40 -")),
+            "network 10 2\npipe 0 1 0 99 5\npipe 1 0 0 40 -")
+
+    def test_console(self):
+        self.assertEqual(Console().run("decide"), "no record")
 
 
 if __name__ == "__main__":

@@ -2,7 +2,8 @@
 
 from wrapcount.decisions import find_decision
 from wrapcount.errors import InvalidMeter, InvalidNetwork, InvalidPipe, NoFlow, NothingToUndo
-from wrapcount.networks import MAX_PIPES, check_index, check_network, checked_branches, find_branches, is_between, is_pipe
+from wrapcount.networks import MAX_PIPES, check_index, check_network, checked_branches, find_branches, is_between
+from wrapcount.networks import is_pipe
 from wrapcount.ranges import find_ranges
 
 

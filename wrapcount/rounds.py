@@ -7,7 +7,7 @@ from wrapcount.networks import MAX_COUNT, MAX_MODULUS, MAX_PIPES, MAX_PLACES, ch
 
 def is_plan_pipe(value, modulus, places):
     """Tells whether the value, of any kind, is a pipe of a plan."""
-    return isinstance(value, tuple) and len(value) == 4 and is_pipe(value + (None,), modulus, places)
+    return isinstance(value, tuple) and is_pipe(value + (None,), modulus, places)
 
 
 def is_tank(value, least, places):
