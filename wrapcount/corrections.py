@@ -2,17 +2,10 @@
 
 from wrapcount.decisions import find_decision, is_correct
 from wrapcount.errors import LimitExceeded
-from wrapcount.networks import checked_branches, find_groups
+from wrapcount.networks import checked_branches, find_groups, with_meter
 from wrapcount.residues import find_sums, read_meters
 
 MAX_CORRECTED = 100
-
-
-def with_meter(network, index, meter):
-    """Returns the network in which the pipe has this meter."""
-    modulus, places, pipes = network
-    pipe = pipes[index][:4] + (meter,)
-    return (modulus, places, pipes[:index] + (pipe,) + pipes[index + 1:])
 
 
 def balancing_pairs(network, branches):

@@ -127,6 +127,13 @@ def check_index(network, pipe):
         raise InvalidPipe(pipe)
 
 
+def with_meter(network, index, meter):
+    """Returns the network in which the pipe has this meter."""
+    modulus, places, pipes = network
+    pipe = pipes[index][:4] + (meter,)
+    return (modulus, places, pipes[:index] + (pipe,) + pipes[index + 1:])
+
+
 def is_number_set(value, end):
     """Tells whether the value, of any kind, is an ascending tuple of numbers from 0 to end - 1 without duplicates."""
     if not isinstance(value, tuple):

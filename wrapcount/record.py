@@ -3,7 +3,7 @@
 from wrapcount.decisions import find_decision
 from wrapcount.errors import InvalidMeter, InvalidNetwork, InvalidPipe, NoFlow, NothingToUndo
 from wrapcount.networks import MAX_PIPES, check_index, check_network, checked_branches, find_branches, is_between
-from wrapcount.networks import is_pipe
+from wrapcount.networks import is_pipe, with_meter
 from wrapcount.ranges import find_ranges
 
 
@@ -45,17 +45,13 @@ class Record:
         """Returns the current network."""
         return (self.modulus, self.places, self.pipes)
 
-    def change_to(self, pipes, change):
-        """Records a change and makes these the pipes, unless the open ones contain a ring."""
-        if find_branches(self.places, pipes) is None:
+    def change_to(self, network, change):
+        """Makes this the current network and records the change, unless the open pipes contain a ring."""
+        _, places, pipes = network
+        if find_branches(places, pipes) is None:
             raise InvalidNetwork("ring")
         self.past.append((change, self.pipes))
         self.pipes = pipes
-
-    def with_meter(self, pipe, meter):
-        """Returns the tuple of the pipes, of which one has another meter."""
-        changed = self.pipes[pipe][:4] + (meter,)
-        return self.pipes[:pipe] + (changed,) + self.pipes[pipe + 1:]
 
     def add(self, pipe):
         """Adds a pipe and returns its index."""
@@ -65,7 +61,7 @@ class Record:
         if not is_pipe(pipe, self.modulus, self.places):
             raise InvalidPipe(index)
         added = copied_pipe(pipe)
-        self.change_to(self.pipes + (added,), ("add", added))
+        self.change_to((self.modulus, self.places, self.pipes + (added,)), ("add", added))
         return index
 
     def read(self, pipe, meter):
@@ -73,14 +69,14 @@ class Record:
         check_index(self.network(), pipe)
         if not is_between(meter, 0, self.modulus - 1):
             raise InvalidMeter(meter)
-        self.change_to(self.with_meter(pipe, meter), ("read", pipe, meter))
+        self.change_to(with_meter(self.network(), pipe, meter), ("read", pipe, meter))
 
     def clear(self, pipe):
         """Removes the reading of the pipe."""
         check_index(self.network(), pipe)
         if self.pipes[pipe][4] is None:
             raise InvalidMeter(None)
-        self.change_to(self.with_meter(pipe, None), ("clear", pipe))
+        self.change_to(with_meter(self.network(), pipe, None), ("clear", pipe))
 
     def undo(self):
         """Undoes the latest change that has not been undone."""

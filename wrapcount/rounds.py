@@ -88,8 +88,10 @@ def tank_pipes(size, stops, first, last):
         spans[0] = (first, first)
     if last is not None:
         spans[-1] = (last, last)
-    ways = zip([0] + stops, stops + [0], spans)
-    return [(source, target, low, high, None) for source, target, (low, high) in ways]
+    return [
+        (source, target, low, high, None)
+        for source, target, (low, high) in zip([0] + stops, stops + [0], spans)
+    ]
 
 
 def join_rounds(plan, readings, levels):
