@@ -128,6 +128,23 @@ class Rules(unittest.TestCase):
                 for name in bound_names(function):
                     self.assertNotIn(name, imported, (path, function.lineno))
 
+    def test_only_own_errors_are_caught(self):
+        for path, tree in trees():
+            imported = [alias.name for node in nodes(tree, ast.ImportFrom) if node.module == "wrapcount.errors"
+                        for alias in node.names]
+            for node in nodes(tree, ast.ExceptHandler):
+                caught = node.type.elts if isinstance(node.type, ast.Tuple) else [node.type]
+                for kind in caught:
+                    self.assertIn(kind.id, imported, (path, node.lineno))
+
+    def test_no_sets_and_nothing_that_own_methods_forbid(self):
+        # A class of the package has __eq__, __len__ and add: then there is no .sort(), and no .add() of a set.
+        for path, tree in trees():
+            self.assertEqual(nodes(tree, ast.Set, ast.SetComp), [], path)
+            for node in nodes(tree, ast.Call):
+                self.assertNotIn(getattr(node.func, "id", None), ("set", "frozenset"), (path, node.lineno))
+                self.assertNotEqual(getattr(node.func, "attr", None), "sort", (path, node.lineno))
+
     def test_is_stands_only_with_none_true_and_false(self):
         for path, tree in trees():
             for node in nodes(tree, ast.Compare):
