@@ -117,6 +117,7 @@ def check_cheapest(network, weights, answer):
     """Returns the total if the answer is a result that cheapest_flow may return, with potentials of any size."""
     branches = checked_branches(network)
     check_weights(network, weights, -MAX_WEIGHT)
+    # Raises NoFlow before the answer is looked at.
     flowing_trial(network, branches)
     if not isinstance(answer, tuple) or len(answer) != 3:
         raise InvalidAnswer("form")
